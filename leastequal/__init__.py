@@ -1,0 +1,1 @@
+"""Leastequal: programs made cheapest over all equal programs at once."""

@@ -1,0 +1,168 @@
+"""The examples of the document, as they stand there."""
+
+import importlib
+import unittest
+
+MODULES = (
+    "errors", "checks", "papers", "words", "terms", "term_texts", "program", "program_texts",
+    "meaning", "runs", "plain", "every", "check_every",
+)
+
+# By file: the lines of its examples. "raises ..." tells the error that a line raises.
+EXAMPLES = (
+    ("checks", r'''
+>>> [is_integer(True), is_within(3, None, 3), pairs_of({"x": 4}), pairs_of([["x", 4], ("x", 4)]), first_twice([2, 1, 1, 2])]
+[False, True, (('x', 4),), None, 1]
+'''),
+    ("words", r'''
+>>> [word(21, 4), word(-1, 4), signed(9, 4), signed(7, 4)]
+[5, 15, -7, 7]
+>>> [worked("mul", 4, [7, 5]), worked("shl 2", 4, [5]), worked("flip", 4, [5]), worked("neg", 4, [5]), worked("if", 4, [False, 3, 9])]
+[3, 4, 10, 11, 9]
+>>> [shape_of("if"), shape_of("no"), shape_of("shl 32")]
+[('word', ('truth', 'word', 'word')), ('truth', ('truth',)), None]
+'''),
+    ("terms", r'''
+>>> x, y, p = ("name", "x"), ("name", "y"), ("flag", "p")
+>>> whole = ("if", ("both", p, ("lt", x, ("number", 3))), ("shl 2", x), ("call step 0", y, ("add", x, x)))
+>>> [is_term(whole), is_term(("add", x, p)), is_term(("shl 32", x)), is_term(["neg", ["number", 5]]), is_term(("loop step 0", x)), is_term(("name", "true"))]
+[True, False, False, True, False, False]
+>>> [is_word(whole), is_word(whole[1]), size_of(whole), levels_of(whole), names_in(whole), flags_in(whole), levels_of(("call one 0",))]
+[True, False, 13, 4, ('x', 'y'), ('p',), 1]
+>>> places_of(("add", ("neg", x), y))
+((), (0,), (0, 0), (1,))
+>>> [part_at(whole, (0, 1, 1)), with_part(("add", x, y), [1], ("neg", y))]
+[('number', 3), ('add', ('name', 'x'), ('neg', ('name', 'y')))]
+>>> put_in(("if", ("flag", "x"), x, y), [("x", ("number", 1)), ("z", x)])
+('if', ('flag', 'x'), ('number', 1), ('name', 'y'))
+>>> with_part(whole, [0], x)
+raises Misfit('kind')
+'''),
+    ("term_texts", r'''
+>>> [term_text(whole), read_term("( neg -5 )"), read_term("?p"), read_term("( call one 0 )")]
+['( if ( both ?p ( lt x 3 ) ) ( shl 2 x ) ( call step 0 y ( add x x ) ) )', ('neg', ('number', -5)), ('flag', 'p'), ('call one 0',)]
+>>> read_term("( add x ?p )")
+raises BadText(0, 3)
+>>> read_term("( add x")
+raises BadText(0, 3)
+'''),
+    ("program", r'''
+>>> step = Function("step", ["x", "y"], [y, ("add", x, y)])
+>>> n = ("name", "n")
+>>> count = ("while", ("lt", ("number", 0), n), [("tell", n), ("set", "n", ("sub", n, ("number", 1)))])
+>>> fib = Program(2, 10, [step], ["n"], [("put", n, ("loop step 0", n, ("number", 0), ("number", 1))), count])
+>>> [len(terms_of(fib)), terms_of(fib)[1], terms_of(fib)[4]]
+[7, ('add', ('name', 'x'), ('name', 'y')), ('lt', ('number', 0), ('name', 'n'))]
+>>> [unfit([step], ("call step 2", n, n)), unfit([step], ("add", ("call step 0", n), ("call go 0",))), unfit([step], ("loop step 1", n, n, n))]
+[('call', 'call step 2'), ('function', 'go'), None]
+>>> [with_terms(fib, terms_of(fib)) == fib]
+[True]
+>>> Program(1, 0, [], [], [("tell", ("call step 0", n, n))])
+raises NoFunction('step')
+'''),
+    ("program_texts", r'''
+>>> program_text(fib)
+'program 2 10\nfunction step x y\nresult y\nresult ( add x y )\ninputs n\nput n ( loop step 0 n 0 1 )\nwhile ( lt 0 n )\ntell n\nset n ( sub n 1 )\nend'
+>>> [read_program(program_text(fib)) == fib]
+[True]
+>>> read_program("program 1 0\ninputs\nwhen true\nelse\nend")
+raises BadText(4, 0)
+'''),
+    ("meaning", r'''
+>>> x, y, n = ("name", "x"), ("name", "y"), ("name", "n")
+>>> step = Function("step", ["x", "y"], [y, ("add", x, y)])
+>>> count = ("while", ("lt", ("number", 0), n), [("tell", n), ("set", "n", ("sub", n, ("number", 1)))])
+>>> deeds = [("set", "a", ("loop step 0", n, ("number", 0), ("number", 1))), ("put", n, ("name", "a")), count]
+>>> program = Program(2, 10, [step], ["n"], deeds)
+>>> [results(program, "step", 4, [9, 9], {}), value(program, ("call step 1", x, x), 4, {"x": 9}, {})]
+[(9, 2), 2]
+>>> [value(program, ("loop step 0", x, ("number", 0), ("number", 1)), 8, {"x": many}, []) for many in [0, 1, 7, 12]]
+[0, 1, 13, 55]
+>>> [value(program, ("at", ("add", x, ("number", -1))), 4, {"x": 3}, {2: 9}), value(program, ("if", ("flag", "p"), x, y), 4, [("p", False), ("x", 1), ("y", 6)], [])]
+[9, 6]
+>>> value(program, ("add", ("call jump 0",), y), 4, {}, {})
+raises NoFunction('jump')
+>>> value(program, ("add", y, x), 4, {"x": True}, {})
+raises NoName('x')
+'''),
+    ("runs", r'''
+>>> end = run(program, 4, [2], {}, [], 100)
+>>> [end.outcome, end.names, end.memory, end.told, end.turns]
+['done', (('a', 1), ('n', 0)), ((2, 1),), (2, 1), 9]
+>>> short = run(program, 4, [2], {}, [], 6)
+>>> [short.outcome, short.names, short.told, short.turns, run(program, 4, [18], [(2, 0)], (), 9) == end]
+['short', (('a', 1), ('n', 1)), (2,), 6, True]
+>>> talk = Program(1, 0, [], [], [("ask", "x"), ("tell", ("neg", x)), ("when", ("eq", x, y), [("ask", "z")], [("put", x, x)])])
+>>> [run(talk, 3, [], {}, [10], 9).told, run(talk, 3, [], {1: 7}, [10], 9).memory, run(talk, 3, [], {}, [8, -1], 9).names, run(talk, 3, [], {}, [], 2).outcome]
+[(6,), ((1, 7), (2, 2)), (('x', 0), ('z', 7)), 'short']
+'''),
+    ("plain", r'''
+>>> plain_value(("less", ("name", "x"), ("at", ("number", 1))), 3, {"x": 4}, {}, {1: 3})
+True
+>>> pieces_of(("eq", ("at", ("name", "x")), ("number", 0)))
+((('name', 'x'), ('name', '#0'), ('number', 0), ('eq', ('name', '#0'), ('number', 0))), (('name', 'x'),))
+'''),
+    ("every", r'''
+>>> holds(("eq", ("add", ("name", "x"), ("name", "x")), ("shl 1", ("name", "x"))), 1).word
+'holds'
+>>> [holds(("no", ("eq", ("number", 2), ("number", 0))), 1) == Fails(1, (), (), ()), holds(("no", ("eq", ("number", 2), ("number", 0))), 2).word]
+[True, 'holds']
+'''),
+    ("check_every", r'''
+>>> double = ("eq", ("add", ("name", "x"), ("name", "x")), ("shl 1", ("name", "x")))
+>>> [shows_holds(double, 1, Holds([[[], [[0, 0, 0, 1], [1, 0, 0, 1], [1, 1, 1, 1]]]])), shows_holds(double, 1, Holds([[[], [[0, 0, 0, 1], [1, 0, 0, 1]]]]))]
+[True, False]
+>>> one = ("eq", ("name", "x"), ("number", 1))
+>>> [shows_fails(one, 1, Fails(2, [["x", 3]], [], [])), shows_fails(one, 1, Fails(2, [["x", 1]], [], [])), shows_fails(one, 1, Fails(2, [["x", 5]], [], []))]
+[True, False, False]
+'''),
+)
+
+
+def names_of_all():
+    """All public names of the package, as the examples leave imports out."""
+    found = {}
+    for module in MODULES:
+        for key, told in vars(importlib.import_module(f"leastequal.{module}")).items():
+            if not key.startswith("_"):
+                found[key] = told
+    return found
+
+
+def steps_of(text):
+    """The pairs of a line of an example and what it must show, None for nothing."""
+    steps = []
+    for line in text.strip("\n").split("\n"):
+        if line.startswith(">>> "):
+            steps.append((line[4:], None))
+        else:
+            steps[-1] = (steps[-1][0], line)
+    return steps
+
+
+class TestExamples(unittest.TestCase):
+    def test_examples(self):
+        scope = names_of_all()
+        for file, text in EXAMPLES:
+            for source, shown in steps_of(text):
+                with self.subTest(file=file, source=source):
+                    self.look_at(source, shown, scope)
+
+    def look_at(self, source, shown, scope):
+        if shown is None:
+            exec(source, scope)
+        elif shown.startswith("raises "):
+            wanted = eval(shown[len("raises "):], scope)
+            with self.assertRaises(type(wanted)) as caught:
+                eval(source, scope)
+            self.assertIs(type(caught.exception), type(wanted))
+            self.assertEqual(vars(caught.exception), vars(wanted))
+        else:
+            self.assertEqual(repr(eval(source, scope)), shown)
+
+    def test_all_are_here(self):
+        self.assertEqual(sum(len(steps_of(text)) for _, text in EXAMPLES), 50)
+
+
+if __name__ == "__main__":
+    unittest.main()

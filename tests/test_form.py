@@ -1,0 +1,105 @@
+"""The form of the package: what of its language can be seen from outside, and the names of its interface."""
+
+import ast
+import importlib
+import inspect
+import unittest
+from pathlib import Path
+
+PACKAGE = Path(__file__).resolve().parent.parent / "leastequal"
+FILES = sorted(PACKAGE.glob("*.py"))
+# By file: the functions and classes of the interface with their parameters.
+INTERFACE = {
+    "checks": {
+        "is_integer": "value", "is_within": "value least most", "are_pairs": "value", "pairs_of": "value", "first_twice": "values",
+    },
+    "papers": {"fixed": "value", "Paper": "word *parts", "Denial": "word *parts"},
+    "words": {"word": "number width", "signed": "value width", "shape_of": "label", "worked": "label width values"},
+    "terms": {
+        "is_term": "value", "is_word": "term", "size_of": "term", "levels_of": "term", "names_in": "term", "flags_in": "term",
+        "places_of": "term", "put_in": "term values", "part_at": "term place", "with_part": "term place other",
+    },
+    "term_texts": {"term_text": "term", "read_term": "text"},
+    "program": {
+        "Function": "name parameters results", "Program": "least rounds functions inputs deeds", "unfit": "functions term",
+        "terms_of": "program", "with_terms": "program terms",
+    },
+    "program_texts": {"program_text": "program", "read_program": "text"},
+    "meaning": {"value": "program term width names memory", "results": "program name width words memory"},
+    "runs": {"Run": "outcome names memory told turns", "run": "program width inputs memory replies fuel"},
+    "plain": {"is_plain": "term", "plain_value": "term width names flags memory", "pieces_of": "truth"},
+    "every": {"weight_of": "truth", "holds": "truth least", "Holds": "tables", "Fails": "width names flags memory"},
+    "check_every": {"shows_holds": "truth least value", "shows_fails": "truth least value"},
+}
+ALLOWED_BUILTINS = (
+    "len range enumerate zip min max sum abs sorted reversed int str bool list tuple dict set isinstance ord repr any all divmod type ValueError"
+).split()
+
+
+def nodes_of(file):
+    return list(ast.walk(ast.parse(file.read_text())))
+
+
+class TestInterface(unittest.TestCase):
+    def test_names_and_parameters(self):
+        for module, things in INTERFACE.items():
+            for key, parameters in things.items():
+                thing = getattr(importlib.import_module(f"leastequal.{module}"), key)
+                told = " ".join(str(one) for one in inspect.signature(thing).parameters.values())
+                self.assertEqual(told, parameters, key)
+                self.assertEqual(thing.__module__, f"leastequal.{module}")
+
+    def test_classes_have_their_own_equality(self):
+        for module, key in (("papers", "Paper"), ("papers", "Denial"), ("program", "Function"), ("program", "Program"), ("runs", "Run")):
+            self.assertIn("__eq__", vars(getattr(importlib.import_module(f"leastequal.{module}"), key)))
+
+
+class TestFiles(unittest.TestCase):
+    def test_the_folder(self):
+        others = [path.name for path in PACKAGE.iterdir() if path not in FILES and path.name != "__pycache__"]
+        self.assertEqual(others, [])
+        self.assertLessEqual(len(FILES), 100)
+
+    def test_sizes_and_signs(self):
+        for file in FILES:
+            lines = file.read_text().split("\n")
+            self.assertLessEqual(len(lines) - 1, 399, file.name)
+            for line in lines:
+                self.assertLessEqual(len(line), 120, file.name)
+                self.assertTrue(all(" " <= sign <= "~" for sign in line), line)
+
+    def test_functions_are_short(self):
+        for file in FILES:
+            for node in nodes_of(file):
+                if isinstance(node, ast.FunctionDef):
+                    self.assertLessEqual(node.end_lineno - node.lineno + 1, 40, node.name)
+                    self.assertEqual(node.decorator_list, [])
+
+    def test_imports_are_of_the_package(self):
+        for file in FILES:
+            for node in nodes_of(file):
+                self.assertNotIsInstance(node, ast.Import)
+                if isinstance(node, ast.ImportFrom):
+                    self.assertTrue(node.module.startswith("leastequal."), file.name)
+
+    def test_names_of_builtins(self):
+        builtin = set(dir(__builtins__) if not isinstance(__builtins__, dict) else __builtins__)
+        for file in FILES:
+            for node in nodes_of(file):
+                if isinstance(node, ast.Name) and node.id in builtin:
+                    self.assertIsInstance(node.ctx, ast.Load)
+                    self.assertIn(node.id, ALLOWED_BUILTINS)
+                if isinstance(node, ast.arg):
+                    self.assertNotIn(node.arg, builtin)
+
+    def test_statements(self):
+        refused = (ast.Try, ast.With, ast.Global, ast.AsyncFunctionDef, ast.Yield, ast.GeneratorExp, ast.Set)
+        for file in FILES:
+            for node in nodes_of(file):
+                self.assertNotIsInstance(node, refused, file.name)
+                if isinstance(node, ast.Constant):
+                    self.assertNotIsInstance(node.value, (float, complex))
+
+
+if __name__ == "__main__":
+    unittest.main()

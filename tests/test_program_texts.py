@@ -208,6 +208,13 @@ class TestProgramTexts(Raises, unittest.TestCase):
         call = term_text(deep(31)).replace("x", "( call one 0 )")
         self.check_text(4, 61, read_program, f"program 1 0\nfunction one\nresult 1\ninputs\ntell {call}")
 
+    def test_eight_functions(self):
+        eight = [line for one in "abcdefgh" for line in (f"function {one} x", "result x")]
+        self.back(read_program("\n".join(["program 1 0", *eight, "inputs"])))
+        self.check_text(17, 0, read_program, "\n".join(["program 1 0", *eight, "function i x", "result x", "inputs"]))
+        self.check_text(17, 0, read_program, "\n".join(["program 1 0", *eight, "function a x", "result x", "inputs"]))
+        self.check_text(17, 0, read_program, "\n".join(["program 1 0", *eight, "function TRUE", "inputs"]))
+
     def test_sixty_deeds(self):
         self.back(program_of([("ask", "x")] * 60))
         self.check_text(62, 0, read_program, text_of(*["ask x"] * 61))

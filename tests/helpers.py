@@ -2,6 +2,7 @@
 
 import itertools
 
+from leastequal.errors import BadText
 from leastequal.words import shape_of
 
 LEAF_KINDS = {"number": "word", "name": "word", "flag": "truth", "true": "truth", "false": "truth"}
@@ -42,13 +43,7 @@ class Raises:
         self.check(error, {"part": part}, action, *arguments, **more)
 
     def check_text(self, line, item, action, text):
-        self.check(self.bad_text(), {"line": line, "item": item}, action, text)
-
-    @staticmethod
-    def bad_text():
-        from leastequal.errors import BadText
-
-        return BadText
+        self.check(BadText, {"line": line, "item": item}, action, text)
 
 
 def as_lists(value):

@@ -130,6 +130,12 @@ def _fits(function, part):
     return number < len(function.results) and len(parts_of(part)) == wanted
 
 
+def is_fit(functions, part):
+    """Whether a call or a loop, whatever its parts are, is of one of these functions and fits."""
+    found = [function for function in functions if function.name == called(part[0])[1]]
+    return bool(found) and _fits(found[0], part)
+
+
 def unfit(functions, term):
     """What is wrong with the calls and loops of a term: ("function", name) or ("call", label); None if they fit."""
     if not _are_functions(functions) or first_twice([function.name for function in functions]) is not None:

@@ -163,3 +163,24 @@ class Draw:
         kinds = shape_of(label)[1]
         share = (size - 1) // len(kinds)
         return (label, *[self.term(one, self.rng.randint(share // 2, share)) for one in kinds])
+
+
+class DrawCalls(Draw):
+    """Draws terms in which calls and loops of some functions stand, too."""
+
+    def __init__(self, rng, leaves, labels, functions):
+        Draw.__init__(self, rng, leaves, labels)
+        self.calls = []
+        for function in functions:
+            many = len(function.parameters)
+            for index in range(len(function.results)):
+                self.calls.append((f"call {function.name} {index}", many))
+                if many == len(function.results):
+                    self.calls.append((f"loop {function.name} {index}", many + 1))
+
+    def term(self, wanted, size):
+        if wanted == "word" and size > 1 and self.calls and self.rng.random() < 0.25:
+            label, many = self.rng.choice(self.calls)
+            share = (size - 1) // max(1, many)
+            return (label, *[self.term("word", self.rng.randint(share // 2, share)) for _ in range(many)])
+        return Draw.term(self, wanted, size)

@@ -6,6 +6,7 @@ import unittest
 MODULES = (
     "errors", "checks", "papers", "words", "terms", "term_texts", "program", "program_texts",
     "meaning", "runs", "plain", "every", "check_every",
+    "polynomials", "rules", "check_rules", "calls", "leads", "shelves", "check_leads",
 )
 
 # By file: the lines of its examples. "raises ..." tells the error that a line raises.
@@ -116,6 +117,59 @@ True
 >>> [shows_fails(one, 1, Fails(2, [["x", 3]], [], [])), shows_fails(one, 1, Fails(2, [["x", 1]], [], [])), shows_fails(one, 1, Fails(2, [["x", 5]], [], []))]
 [True, False, False]
 '''),
+    ("polynomials", r'''
+>>> x, y, z = ("name", "x"), ("name", "y"), ("name", "z")
+>>> [polynomial(("sub", ("mul", x, ("add", x, ("number", 3))), ("shl 2", x))), polynomial(("sub", x, x))]
+[((('x',), -1), (('x', 'x'), 1)), ()]
+>>> [parting(("mul", x, x), x), parting(("mul", x, x), x, 3), parting(("mul", x, y), ("mul", y, x)), parting(("shl 5", ("mul", x, y)), ("number", 0))]
+[(2, (('x', 2),)), (3, (('x', 2),)), None, (6, (('x', 1), ('y', 1)))]
+'''),
+    ("rules", r'''
+>>> low = ("and", x, ("number", 1))
+>>> plain_form(("mul", low, ("add", y, ("number", 1))), ("mul", ("add", ("number", 1), ("number", 2)), y))
+(('eq', ('add', ('and', ('name', 'x'), ('number', 1)), ('name', 'p0')), ('mul', ('number', 3), ('name', 'y'))), (('p0', ('mul', ('and', ('name', 'x'), ('number', 1)), ('name', 'y'))),))
+>>> double, square = Rule("double", ("add", x, x), ("shl 1", x), 2), ("mul", x, x)
+>>> [taken(double, 1).parts, judged(square, x, 3).parts, judged(("and", ("mul", x, y), x), x, 1).parts]
+[('sums', ((('x',), 2),)), (3, (('x', 2),), (), ()), (1, (('x', 1), ('y', 0)), (), ())]
+>>> unsure = judged(("and", square, ("number", 2)), ("number", 0), 1)
+>>> [unsure.word, unsure.paper.width, bool(unsure)]
+['unsure', 2, False]
+'''),
+    ("check_rules", r'''
+>>> [shows_judged(square, x, 1, NotTaken(5, [["x", 30]], [], [])), shows_judged(square, x, 1, NotTaken(1, [["x", 1]], [], [])), shows_judged(square, x, 1, Taken("sums", [[["x", "x"], 1]]))]
+[True, False, False]
+'''),
+    ("calls", r'''
+>>> up = Function("up", ["i"], [read_term("( add i 1 )")])
+>>> two = Function("two", ["t"], [read_term("( add t 2 )")])
+>>> pair = Function("pair", ["a", "b"], [read_term("( add a 1 )"), read_term("( add b a )")])
+>>> program = Program(3, 5, [up, two, pair], [], [])
+>>> [(rule.name, term_text(rule.left), term_text(rule.right), rule.ways) for rule in call_rules(program)][2:]
+[('call pair 0', '( call pair 0 a b )', '( add a 1 )', 1), ('call pair 1', '( call pair 1 a b )', '( add b a )', 1)]
+>>> [folded(read_term("( sub 3 5 )")), folded(read_term("( flip 0 )"))]
+[('number', -2), ('number', -1)]
+>>> [term_text(turned(program, read_term("( loop pair 1 2 x ( neg y ) )"))), turned(program, read_term("( loop pair 1 0 x y )"))]
+['( loop pair 1 1 ( call pair 0 x ( neg y ) ) ( call pair 1 x ( neg y ) ) )', ('name', 'y')]
+'''),
+    ("leads", r'''
+>>> double, drop = Lead("double", "up", "two", [read_term("( shl 1 i )")]), Lead("drop", "pair", "up", [("name", "a")])
+>>> [[term_text(side) for side in sides] for sides in sides_of(program, double) + sides_of(program, drop)]
+[['( add ( shl 1 i ) 2 )', '( shl 1 ( add i 1 ) )'], ['( add a 1 )', '( add a 1 )']]
+>>> [bool(led(program, double)), bool(led(program, drop)), led(program, Lead("wrong", "up", "two", [("name", "i")])).index]
+[True, True, 0]
+>>> [(rule.name, term_text(rule.left), term_text(rule.right), rule.ways) for rule in lead_rules(program, double) + lead_rules(program, drop)]
+[('lead double 0', '( shl 1 ( loop up 0 count i ) )', '( loop two 0 count ( shl 1 i ) )', 2), ('lead drop 0', '( loop pair 0 count a b )', '( loop up 0 count a )', 1)]
+'''),
+    ("shelves", r'''
+>>> shelf = Shelf(program, Book(3, [Rule("plus", read_term("( add x 0 )"), ("name", "x"), 1)]), [double, drop])
+>>> [[rule.name for rule in shelf.rules], [rule.name for rule in shelf.before(2).rules]]
+[['plus', 'call up 0', 'call two 0', 'call pair 0', 'call pair 1', 'lead double 0', 'lead drop 0'], ['plus', 'call up 0', 'call two 0', 'lead double 0']]
+'''),
+    ("check_leads", r'''
+>>> wrong = Lead("wrong", "up", "two", [("name", "i")])
+>>> [shows_led(program, double, led(program, double)), shows_led(program, wrong, led(program, wrong)), shows_led(program, double, Led([]))]
+[True, True, False]
+'''),
 )
 
 
@@ -161,7 +215,7 @@ class TestExamples(unittest.TestCase):
             self.assertEqual(repr(eval(source, scope)), shown)
 
     def test_all_are_here(self):
-        self.assertEqual(sum(len(steps_of(text)) for _, text in EXAMPLES), 50)
+        self.assertEqual(sum(len(steps_of(text)) for _, text in EXAMPLES), 75)
 
 
 if __name__ == "__main__":

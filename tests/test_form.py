@@ -30,7 +30,23 @@ INTERFACE = {
     "plain": {"is_plain": "term", "plain_value": "term width names flags memory", "pieces_of": "truth"},
     "every": {"weight_of": "truth", "holds": "truth least", "Holds": "tables", "Fails": "width names flags memory"},
     "check_every": {"shows_holds": "truth least value", "shows_fails": "truth least value"},
+    "polynomials": {"is_sum_term": "term", "polynomial": "term", "alike_at": "one other width", "parting": "one other least=1"},
+    "rules": {
+        "Rule": "name left right ways", "plain_form": "left right", "judged": "left right least", "taken": "rule least", "Book": "least rules",
+        "Taken": "way paper", "NotTaken": "width names flags memory", "Unsure": "paper",
+    },
+    "check_rules": {"shows_judged": "left right least value", "shows_taken": "rule least value"},
+    "calls": {"call_rules": "program", "folded": "term", "turned": "program term"},
+    "leads": {
+        "Lead": "name one other terms", "sides_of": "program lead", "Led": "papers", "NotLed": "index paper", "led": "program lead",
+        "lead_rules": "program lead",
+    },
+    "shelves": {"Shelf": "program book leads"},
+    "check_leads": {"shows_led": "program lead value"},
 }
+# The classes whose == the interface tells, by file, and the methods of classes.
+EQUALS = {"papers": "Paper Denial", "program": "Function Program", "runs": "Run", "rules": "Rule Book", "leads": "Lead", "shelves": "Shelf"}
+METHODS = {("shelves", "Shelf"): {"rule": "self name", "before": "self index"}}
 ALLOWED_BUILTINS = (
     "len range enumerate zip min max sum abs sorted reversed int str bool list tuple dict set isinstance ord repr any all divmod type ValueError"
 ).split()
@@ -50,8 +66,15 @@ class TestInterface(unittest.TestCase):
                 self.assertEqual(thing.__module__, f"leastequal.{module}")
 
     def test_classes_have_their_own_equality(self):
-        for module, key in (("papers", "Paper"), ("papers", "Denial"), ("program", "Function"), ("program", "Program"), ("runs", "Run")):
-            self.assertIn("__eq__", vars(getattr(importlib.import_module(f"leastequal.{module}"), key)))
+        for module, keys in EQUALS.items():
+            for key in keys.split():
+                self.assertIn("__eq__", vars(getattr(importlib.import_module(f"leastequal.{module}"), key)))
+
+    def test_methods(self):
+        for (module, key), methods in METHODS.items():
+            for method, parameters in methods.items():
+                made = vars(getattr(importlib.import_module(f"leastequal.{module}"), key))[method]
+                self.assertEqual(" ".join(str(one) for one in inspect.signature(made).parameters.values()), parameters)
 
 
 class TestFiles(unittest.TestCase):

@@ -9,7 +9,7 @@ class Interned:
 
     def __init__(self):
         self.numbers = {}
-        self.terms = []
+        # By number: the label and the numbers of the parts, none for what has no parts.
         self.rows = []
 
     def number_of(self, term):
@@ -20,9 +20,8 @@ class Interned:
         """The number of a part whose own parts have these numbers."""
         row = (part[0], *inner) if inner else part
         if row not in self.numbers:
-            self.numbers[row] = len(self.terms)
-            self.terms.append(part)
-            self.rows.append((part[0], tuple(inner)) if inner else (part, ()))
+            self.numbers[row] = len(self.rows)
+            self.rows.append((part[0], tuple(inner)))
         return self.numbers[row]
 
     def known(self, term):

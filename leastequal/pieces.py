@@ -93,7 +93,7 @@ class Pieces:
             self.rows.append(row)
         return self.numbers[row]
 
-    def pairs(self):
+    def read_pairs(self):
         """The rows that say of each two reads whether their addresses, and whether their words, are equal."""
         found = []
         for index, (address, name) in enumerate(self.reads):
@@ -103,7 +103,7 @@ class Pieces:
 
     def add_pairs(self):
         """Puts the pieces of the pairs of reads behind those of the parts."""
-        for addresses, names in self.pairs():
+        for addresses, names in self.read_pairs():
             self.number_of_row(addresses)
             self.number_of_row(names)
 

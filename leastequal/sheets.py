@@ -21,13 +21,13 @@ class Sheet:
         self.mask = mask
         self.constants = []
         self.rows = []
-        self.places = {leaf: index for index, leaf in enumerate(given)}
+        self.slots = {leaf: index for index, leaf in enumerate(given)}
         parts = [parts_as_ended(term) for term in terms]
         # Constants stand ahead of all rows, so they are found first.
         for some in parts:
             for part in some:
                 self.keep_constants(part)
-        self.many_ahead = len(self.places)
+        self.many_ahead = len(self.slots)
         self.outs = [self.keep_rows(some) for some in parts]
 
     def keep_constants(self, part):
@@ -38,8 +38,8 @@ class Sheet:
             key = part
         elif shift is None:
             return
-        if key not in self.places:
-            self.places[key] = len(self.places)
+        if key not in self.slots:
+            self.slots[key] = len(self.slots)
             self.constants.append(shift if shift is not None else _constant(part, self.mask))
 
     def keep_rows(self, parts):
@@ -50,10 +50,10 @@ class Sheet:
             inner = slots[first:]
             del slots[first:]
             key = part if is_leaf(part) else (part[0], *inner)
-            if key not in self.places:
-                self.places[key] = self.many_ahead + len(self.rows)
+            if key not in self.slots:
+                self.slots[key] = self.many_ahead + len(self.rows)
                 self.rows.append(self.row_of(part[0], inner))
-            slots.append(self.places[key])
+            slots.append(self.slots[key])
         return slots[0]
 
     def row_of(self, label, slots):
@@ -62,7 +62,7 @@ class Sheet:
         if call is not None:
             return None, call, slots, 0
         action, numbers = action_of(label)
-        ahead = [self.places[("shl", number)] for number in numbers]
+        ahead = [self.slots[("shl", number)] for number in numbers]
         one, two, three = [*ahead, *slots, 0, 0][:3]
         return action, one, two, three
 

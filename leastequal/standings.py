@@ -130,7 +130,7 @@ class Standings:
             if row[0] in BEHIND or shift_of(row[0]) is not None:
                 self.keeps[number] = Keep(pieces, row)
         self.start = (0, *[self.keeps[number].start for number in self.keeps])
-        self.apart = [(pieces.numbers[one], pieces.numbers[other]) for one, other in pieces.pairs()]
+        self.apart = [(pieces.numbers[one], pieces.numbers[other]) for one, other in pieces.read_pairs()]
         self.addresses = [address for address, _ in pieces.reads]
         self.read_names = [name for _, name in pieces.reads]
         self.terms = pieces.as_terms()

@@ -16,7 +16,7 @@ def term_text(term):
         if isinstance(part, str):
             items.append(part)
         elif is_leaf(part):
-            items.append(_leaf_text(part))
+            items.append(leaf_text(part))
         else:
             items.append(f"( {part[0]}")
             waiting.append(")")
@@ -24,7 +24,8 @@ def term_text(term):
     return " ".join(items)
 
 
-def _leaf_text(leaf):
+def leaf_text(leaf):
+    """The one item of the text of a leaf."""
     if len(leaf) == 1:
         return leaf[0]
     return f"?{leaf[1]}" if leaf[0] == "flag" else str(leaf[1])

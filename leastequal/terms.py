@@ -1,10 +1,11 @@
 """Terms: what they are, what they have, and how parts are exchanged."""
 
 from leastequal.checks import are_integers, pairs_of
-from leastequal.errors import BadInput, BadNumber, BadTerm, Misfit
+from leastequal.errors import BadInput, BadNumber, Misfit
 from leastequal.forms import checked_term, kind_of, many_levels, many_parts, parts_of, spellings_in, term_of
+from leastequal.patterns import with_leaves
+from leastequal.places import exchanged, parts_on
 from leastequal.spellings import is_spelling
-from leastequal.walks import bottom_up
 
 
 def is_term(value):
@@ -53,13 +54,7 @@ def put_in(term, values):
     """The term with terms in the place of names and flags, all at once."""
     whole = checked_term(term, "term")
     stands = _stands_of(values)
-
-    def exchanged(part, parts):
-        if part[0] in ("name", "flag"):
-            return stands.get(part, part)
-        return (part[0], *parts) if parts else part
-
-    return bottom_up(whole, parts_of, exchanged)
+    return with_leaves(whole, stands)
 
 
 def _stands_of(values):
@@ -81,22 +76,18 @@ def part_at(term, place):
     """The part of a term at a place."""
     whole = checked_term(term, "term")
     _check_place(place)
-    return _parts_on(whole, place)[-1]
+    return _passed(whole, place)[-1]
 
 
 def with_part(term, place, other):
     """The term with another one at a place."""
     whole = checked_term(term, "term")
     _check_place(place)
-    made = term_of(other)
-    if made is None:
-        raise BadTerm("other")
-    passed = _parts_on(whole, place)
+    made = checked_term(other, "other")
+    passed = _passed(whole, place)
     if kind_of(passed[-1]) != kind_of(made):
         raise Misfit("kind")
-    for part, index in zip(passed[-2::-1], place[::-1]):
-        made = (*part[:index + 1], made, *part[index + 2:])
-    return made
+    return exchanged(passed, place, made)
 
 
 def _check_place(place):
@@ -104,12 +95,9 @@ def _check_place(place):
         raise BadNumber("place")
 
 
-def _parts_on(term, place):
-    """The parts on the way from a term to the one at a place, both ends among them."""
-    passed = [term]
-    for index in place:
-        parts = parts_of(passed[-1])
-        if index >= len(parts):
-            raise Misfit("place")
-        passed.append(parts[index])
+def _passed(term, place):
+    """The parts on the way from a term to the one at a place."""
+    passed = parts_on(term, place)
+    if passed is None:
+        raise Misfit("place")
     return passed

@@ -7,6 +7,7 @@ MODULES = (
     "errors", "checks", "papers", "words", "terms", "term_texts", "program", "program_texts",
     "meaning", "runs", "plain", "every", "check_every",
     "polynomials", "rules", "check_rules", "calls", "leads", "shelves", "check_leads",
+    "classes", "matching", "rounds", "chains", "check_chains", "members", "costs",
 )
 
 # By file: the lines of its examples. "raises ..." tells the error that a line raises.
@@ -170,6 +171,99 @@ True
 >>> [shows_led(program, double, led(program, double)), shows_led(program, wrong, led(program, wrong)), shows_led(program, double, Led([]))]
 [True, True, False]
 '''),
+    ("classes", r'''
+>>> classes = Classes()
+>>> [classes.put(read_term("( add x 0 )")), classes.places, classes.many, classes.nodes(2), classes.class_of(read_term("( add 0 x )"))]
+[2, (0, 1, 2), 3, (('add', 0, 1),), None]
+>>> [classes.join(read_term("( add x 0 )"), ("name", "x"), "plus"), classes.places, classes.nodes(0), classes.first_term(0)]
+[True, (0, 1), (('add', 0, 1), ('name', 'x')), ('name', 'x')]
+>>> [classes.class_of(read_term("( add ( add x 0 ) 0 )")), classes.join(("name", "x"), read_term("( add ( add x 0 ) 0 )"), None), classes.record]
+[0, False, ((('add', ('name', 'x'), ('number', 0)), ('name', 'x'), 'plus'),)]
+>>> other = Classes()
+>>> [other.put(read_term("( neg a )")), other.put(read_term("( neg b )")), other.join(("name", "b"), ("name", "a"), 7), other.places, other.nodes(1), other.kind(1)]
+[1, 3, True, (0, 1), (('neg', 0),), 'word']
+>>> [other.first_term(1), other.put(read_term("( mul b 2 )")), other.places, other.copy() == other]
+[('neg', ('name', 'a')), 5, (0, 1, 4, 5), True]
+>>> other.nodes(3)
+raises NoClass(3)
+>>> other.join(("true",), ("name", "a"), None)
+raises Misfit('kinds')
+'''),
+    ("matching", r'''
+>>> side = read_term("( if ?p ( add x ( mul x y ) ) 0 )")
+>>> [matched(side, read_term("( if ( eq a 1 ) ( add 3 ( mul 3 a ) ) 0 )")), matched(side, read_term("( if true ( add 3 ( mul 4 a ) ) 0 )"))]
+[(('p', ('eq', ('name', 'a'), ('number', 1))), ('x', ('number', 3)), ('y', ('name', 'a'))), None]
+>>> double, swap, zero = Rule("double", read_term("( mul x 2 )"), read_term("( add x x )"), 2), Rule("swap", read_term("( add x y )"), read_term("( add y x )"), 2), Rule("zero", read_term("( add x 0 )"), read_term("x"), 1)
+>>> up = Function("up", ["x"], [read_term("( add x 1 )")])
+>>> program = Program(2, 3, [up], ["a"], [])
+>>> shelf = Shelf(program, Book(2, [double, swap, zero]), [])
+>>> box = Classes()
+>>> [box.put(read_term("( add ( mul a 2 ) 0 )")), box.nodes(2), box.nodes(4)]
+[4, (('mul', 0, 1),), (('add', 2, 3),)]
+>>> [matches(box, double, 1), matches(box, double, -1), matches(box, swap, 1), matches(box, swap, -1), matches(box, zero, 1)]
+[((2, (0,)),), (), ((4, (2, 3)),), ((4, (3, 2)),), ((4, (2,)),)]
+>>> matches(box, zero, -1)
+raises Misfit('way')
+>>> loops = Classes()
+>>> [loops.put(read_term("( loop up 0 2 ( add 1 1 ) )")), folds(loops), turns(loops, program)]
+[3, ((2, ('add', ('number', 1), ('number', 1))),), ((3, 'loop up 0', 2, (2,)),)]
+'''),
+    ("rounds", r'''
+>>> [round_of(box, shelf, 3), round_of(box, shelf, 100), box.places, box.nodes(2), round_of(box, shelf, 100)]
+[(4, True, False), (4, False, False), (0, 1, 2, 3), (('add', 0, 0), ('add', 2, 3), ('add', 3, 2), ('mul', 0, 1)), (9, False, True)]
+>>> [(term_text(one), term_text(other), why[0], why[1]) for one, other, why in box.record]
+[('( mul a 2 )', '( add a a )', 'double', 1), ('( add ( mul a 2 ) 0 )', '( add 0 ( mul a 2 ) )', 'swap', 1), ('( add ( mul a 2 ) 0 )', '( mul a 2 )', 'zero', 1)]
+>>> told = grown(read_term("( loop up 0 2 ( add 1 1 ) )"), shelf, 6, 50)
+>>> [told.place, told.rounds, told.cut, told.still, told.classes.many, term_text(told.classes.first_term(told.place))]
+[3, 5, False, True, 16, '4']
+>>> told = grown(read_term("( add ( mul a 2 ) 0 )"), shelf, 5, 4)
+>>> [told.rounds, told.cut, told.still, told.classes.many]
+[1, True, False, 7]
+'''),
+    ("chains", r'''
+>>> two, none = Rule("two", read_term("( mul x 2 )"), read_term("( add x x )"), 2), Rule("none", read_term("( add x 0 )"), read_term("x"), 1)
+>>> shelf = Shelf(Program(4, 10, [], [], []), Book(4, [two, none]), [])
+>>> a, start, end = ("name", "a"), read_term("( mul ( add a 0 ) 2 )"), read_term("( add a a )")
+>>> steps = [Step("none", 1, (0,), [("x", a)]), Step("two", 1, (), [("x", a)])]
+>>> [term_text(done(shelf, start, steps[0])), term_text(after(shelf, start, steps)), term_text(done(shelf, end, Step("none", -1, [1], [["x", a]])))]
+['( mul a 2 )', '( add a a )', '( add a ( add a 0 ) )']
+>>> box = Classes()
+>>> first = box.join(read_term("( add a 0 )"), a, ("none", 1, [("x", a)]))
+>>> second = box.join(read_term("( mul a 2 )"), end, ("two", 1, [("x", a)]))
+>>> found = chain(box, start, end)
+>>> [moment(box, start, end), moment(box, a, read_term("( add ( add a 0 ) 0 )")), moment(box, a, ("name", "b")), after(shelf, start, plain_steps(found)) == end]
+[2, 1, None, True]
+>>> short = Chain([Link(start, read_term("( mul a 2 )"), [steps[0]]), Link(start, end, [Use(0, 1, ()), steps[1]])])
+>>> [many_steps(short), plain_steps(short) == tuple(steps), plain_steps(Chain([Link(start, start, [])]))]
+[2, True, ()]
+>>> [[term_text(term) for term in group] for group in chain(box, a, ("name", "b")).groups]
+[['( add a a )', '( mul a 2 )'], ['( add a 0 )', 'a'], ['b'], ['0'], ['2']]
+'''),
+    ("check_chains", r'''
+>>> [shows_chain(shelf, start, end, found), shows_chain(shelf, start, end, short), shows_chain(shelf, end, start, short), shows_chain(shelf, start, end, Chain([Link(start, end, [steps[1]])]))]
+[True, True, False, False]
+>>> apart = chain(box, a, ("name", "b"))
+>>> [shows_apart(box, a, ("name", "b"), apart), shows_apart(box, a, ("name", "b"), Apart(apart.groups[:-1])), shows_apart(box, a, read_term("( add a 0 )"), apart)]
+[True, False, False]
+'''),
+    ("members", r'''
+>>> x, zero = ("name", "x"), ("number", 0)
+>>> web, lone = Classes(), Classes()
+>>> started = [web.join(("add", x, zero), x, ("plain", 1, (("x", x),))), lone.put(x)]
+>>> [web.nodes(0), web.nodes(1), [many_members(web, 0, size) for size in (1, 2, 3, 4, 5)], is_endless(web, 0), all_members(web, 1)]
+[(('add', 0, 1), ('name', 'x')), (('number', 0),), [1, 0, 1, 0, 1], True, 1]
+>>> member_at(web, 0, 5, 0), index_of(web, 0, ("add", x, zero))
+(('add', ('add', ('name', 'x'), ('number', 0)), ('number', 0)), (3, 0))
+>>> same_members(web, 0, lone, 0) == Parting(("add", x, zero)), sorted(same_members(lone, 0, lone, 0).pairs)
+(True, [(0, 0)])
+'''),
+    ("costs", r'''
+>>> dear = Weights([("mul", 4), ("add", 2)], 1)
+>>> [cost_of(("add", ("mul", x, ("number", 7)), x), cost) for cost in (dear, Depth({"mul": 3}, 1), Needs(), Both(Weights([], 1), Needs()))]
+[9, 5, 2, (5, 2)]
+>>> work_weights(Program(1, 3, [Function("f", ["x"], [("add", x, x)])], [], [])).table
+(('call f 0', 4), ('loop f 0', 10))
+'''),
 )
 
 
@@ -215,7 +309,7 @@ class TestExamples(unittest.TestCase):
             self.assertEqual(repr(eval(source, scope)), shown)
 
     def test_all_are_here(self):
-        self.assertEqual(sum(len(steps_of(text)) for _, text in EXAMPLES), 75)
+        self.assertEqual(sum(len(steps_of(text)) for _, text in EXAMPLES), 127)
 
 
 if __name__ == "__main__":

@@ -118,6 +118,6 @@ def same_members(classes, place, other, its):
         if (pair[0] == place) != (pair[1] == its):
             if twins.rows[pair][0] > MOST_PARTING_SIZE:
                 raise TooMany("size", MOST_PARTING_SIZE)
-            return Parting(twins.term_of(pair))
+            return Parting(twins.term_for(pair))
         pair = twins.next_pair()
     return SameMembers(list(twins.rows))

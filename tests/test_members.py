@@ -1,9 +1,10 @@
 """The members of classes."""
 
+import itertools
 import random
 import unittest
 
-from helpers import P, STRANGE, TRUE, X, Y, DrawCalls, Raises, as_lists, name, number, parts
+from helpers import P, STRANGE, TRUE, X, Y, DrawCalls, Raises, as_lists, kind, name, number, parts
 from leastequal.classes import Classes
 from leastequal.errors import BadClasses, BadNumber, BadTerm, Misfit, NoClass, TooMany
 from leastequal.members import (
@@ -220,7 +221,77 @@ class TestEndless(Raises, unittest.TestCase):
         self.assertEqual(all_members(place=0, classes=classes), 2)
 
 
+def all_pairs(classes, other):
+    """By pair: the least size of a term that lies in these two classes; by all choices of pairs for all nodes, until nothing changes."""
+    sides = [{node: place for place in one.places for node in one.nodes(place)} for one in (classes, other)]
+    found = {}
+    while True:
+        changed = False
+        for which, nodes in enumerate(sides):
+            for node, place in nodes.items():
+                inner = node[1:] if parts(node) else ()
+                for some in itertools.product(*[[pair for pair in found if pair[which] == part] for part in inner]):
+                    its = [pair[1 - which] for pair in some]
+                    home = None if None in its else sides[1 - which].get((node[0], *its) if inner else node)
+                    pair = (place, home) if which == 0 else (home, place)
+                    size = 1 + sum(found[one] for one in some)
+                    if size < found.get(pair, size + 1):
+                        found[pair] = size
+                        changed = True
+        if not changed:
+            return found
+
+
 class TestSameMembers(Raises, unittest.TestCase):
+    def test_against_all_choices(self):
+        seen = {SameMembers: 0, Parting: 0}
+        for seed in range(150):
+            classes = drawn(1600 + seed, 4, 5, (A, B, TRUE))
+            other = drawn(1700 + seed, 4, 5, (A, B, TRUE))
+            if seed % 2:
+                other = classes.copy()
+                for index in range(seed % 4):
+                    one, two = [other.first_term(other.places[(seed + index * step) % len(other.places)]) for step in (1, 2)]
+                    if kind(one) == kind(two):
+                        other.join(one, two, None)
+            if seed % 3 == 0:
+                for one in (classes, other)[:1 + seed % 2]:
+                    for spelling in "cdefgh":
+                        one.join(A, name(spelling), None)
+                for spelling in "cdefgh":
+                    other.put(name(spelling))
+                classes.put(("call f 0", A, A, A))
+                other.put(("call f 0", C, A, C))
+            found = all_pairs(classes, other)
+            for place in classes.places[:4]:
+                its = other.places[place % len(other.places)]
+                unlike = [size for pair, size in found.items() if (pair[0] == place) != (pair[1] == its)]
+                told = same_members(classes, place, other, its)
+                seen[type(told)] += 1
+                if unlike:
+                    self.assertEqual((type(told), size_of(told.term)), (Parting, min(unlike)))
+                else:
+                    self.assertEqual(sorted(told.pairs, key=str), sorted(found, key=str))
+        self.assertGreater(min(seen.values()), 50)
+
+    def test_many_pairs_for_a_part(self):
+        # One class of the first Classes has the members of a hundred classes of the other one.
+        one, other = Classes(), Classes()
+        for index in range(100):
+            one.join(name("y0"), name(f"y{index}"), None)
+            other.put(name(f"y{index}"))
+        part = name("y0")
+        for term in (("call f 0", part, part, part), ("call h 5", *[part] * 6), ("loop h 5", *[part] * 7)):
+            one.put(term)
+            other.put(term)
+        place, its = one.put(TRUE), other.put(TRUE)
+        found = same_members(one, place, other, its)
+        self.assertEqual(len(found.pairs), 100 + 2 * 3 + 1)
+        turned = same_members(other, its, one, place).pairs
+        self.assertEqual(sorted(turned, key=str), sorted([pair[::-1] for pair in found.pairs], key=str))
+        top = one.class_of(("loop h 5", *[part] * 7))
+        self.assertEqual(size_of(same_members(one, top, other, other.class_of(("loop h 5", *[part] * 7))).term), 8)
+
     def look_at(self, classes, place, other, its, most=7):
         """Looks at what same_members tells against listings of members up to a size."""
         copies = classes.copy(), other.copy()

@@ -66,7 +66,7 @@ def _is_polynomial(value, wanted):
     if not are_pairs(value) or len(value) != len(wanted):
         return False
     for (product, many), (its, times) in zip(value, wanted):
-        if not isinstance(product, tuple) or product != its or not is_integer(many) or many != times:
+        if product != its or not is_integer(many) or many != times:
             return False
     return True
 

@@ -56,7 +56,7 @@ class Counts:
         """Counts up to a size."""
         for made in range(self.reached + 1, size + 1):
             self.reached = made
-            for tail in self.ways:
+            for tail in list(self.ways):
                 if tail:
                     self.ways[tail].append(self.ways_of(tail, made - 1))
                 elif made > 1:

@@ -84,10 +84,10 @@ class Web:
         self.held[other].extend(self.held.pop(one))
         return self.move_users(self.users.pop(one), other)
 
-    def move_users(self, users, head):
+    def move_users(self, indexes, head):
         """Makes the rows of nodes that had a part in a class that came to this head anew: the pairs of equal ones."""
         pairs = []
-        for index in users:
+        for index in indexes:
             row = self.rows[index]
             # A node that became equal to another one stands no more.
             if self.at.get(row) == index:

@@ -63,11 +63,12 @@ class TestSums(Raises, unittest.TestCase):
         self.right(great, number(0), 1, NotTaken(401, [("x", 1)], (), ()), judged(great, number(0), 1))
         self.wrong(great, number(0), 1, NotTaken(400, [("x", 1)], (), ()), NotTaken(401, [("x", 2)], (), ()))
         self.right(XY, X, 1, NotTaken(1, [("x", 1), ("y", 0)], (), ()))
+        self.wrong(XY, number(0), 1, NotTaken(1, [("x", 1), ("y", 0)], (), ()), NotTaken(1, [("x", 0), ("y", 1)], (), ()))
         self.wrong(XY, X, 1, NotTaken(1, [("y", 0), ("x", 1)], (), ()), NotTaken(1, [("x", 1)], (), ()), NotTaken(1, [("y", 0)], (), ()))
 
     def test_each_label(self):
         for left, right, words, width in (
-            (("sub", X, Y), ("add", X, Y), [("x", 0), ("y", 1)], 2), (("neg", X), X, [("x", 1)], 2), (("shl 2", X), number(0), [("x", 1)], 3),
+            (("sub", X, Y), ("add", X, Y), [("x", 0), ("y", 1)], 2), (("mul", X, ("sub", X, Y)), ("neg", X), [("x", 1), ("y", 0)], 2), (("neg", X), X, [("x", 1)], 2), (("shl 2", X), number(0), [("x", 1)], 3),
             (("mul", X, Y), ("add", X, Y), [("x", 1), ("y", 0)], 1), (number(-3), number(5), [], 4), (("neg", number(4)), number(4), [], 4),
         ):
             self.right(left, right, 1, NotTaken(width, words, (), ()))
@@ -120,6 +121,7 @@ class TestOthers(Raises, unittest.TestCase):
         left, right = ("add", ("call f 0", X), LOW), ("add", ("call f 0", X), number(0))
         self.wrong(left, right, 1, NotTaken(1, [("x", 1)], (), ()))
         self.wrong(("and", X, number(2)), ("loop f 0", X, X), 2, NotTaken(2, [("x", 2)], (), ()))
+        self.wrong(("loop f 0", X, X), ("and", X, number(2)), 2, NotTaken(2, [("x", 2)], (), ()))
 
     def test_unsure(self):
         left, right = ("and", XX, number(2)), number(0)

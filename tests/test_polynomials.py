@@ -4,6 +4,7 @@ import random
 import unittest
 
 from helpers import FALSE, P, STRANGE, TRUE, X, Y, Z, Draw, Raises, all_told, as_lists, has_no_list, name, number, worth
+from leastequal.binomials import parting_of
 from leastequal.errors import BadNumber, BadTerm, TooMany
 from leastequal.polynomials import alike_at, is_sum_term, parting, polynomial
 from leastequal.terms import names_in
@@ -181,14 +182,29 @@ class TestParting(Raises, unittest.TestCase):
         row = balanced("mul", [("sub", X, number(index)) for index in range(9)])
         self.assertEqual(parting(row, number(0)), (8, (("x", 9),)))
 
+    def falling(self, many):
+        """The product x (x - 1) .. of so many factors, by exponent."""
+        row = {0: 1}
+        for index in range(many):
+            row = {at: row.get(at - 1, 0) - index * row.get(at, 0) for at in range(index + 2)}
+        return row
+
+    def least_parting(self, row, most):
+        """The least width from 1 on, and the least word, at which a polynomial of one name is not 0."""
+        worths = {x: sum(many * x ** at for at, many in row.items()) for x in range(most + 1)}
+        width = 1 + min((worth & -worth).bit_length() - 1 for worth in worths.values() if worth)
+        return width, (("x", min(x for x, worth in worths.items() if worth % 2 ** width)),)
+
     def test_words_that_take_many_bits(self):
         # x (x - 1) .. is a multiple of 2 to the power of 78, beyond the first 64 bits.
-        row = {0: 1}
-        for index in range(82):
-            row = {at: row.get(at - 1, 0) - index * row.get(at, 0) for at in range(index + 2)}
-        from leastequal.binomials import parting_of
-        found = parting_of({("x",) * at: many for at, many in row.items() if many}, ["x"], 1)
-        self.assertEqual(found, (80, (("x", 82),)))
+        for many in (57, 58, 59, 60, 64, 66, 67, 70, 71, 72, 73, 82):
+            for power_of_two in (None, 55, 61, 63):
+                row = self.falling(many)
+                if power_of_two is not None:
+                    row[1] += 2 ** power_of_two
+                found = parting_of({("x",) * at: times for at, times in row.items() if times}, ["x"], 1)
+                self.assertEqual(found, self.least_parting(row, many))
+        self.assertEqual(self.least_parting(self.falling(82), 82), (80, (("x", 82),)))
 
     def test_errors(self):
         wide = balanced("add", [X] * 1001)

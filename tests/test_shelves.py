@@ -85,6 +85,12 @@ class TestShelf(Raises, unittest.TestCase):
         ]
         self.assertFalse(any(shelf == other for other in others))
 
+    def test_a_lead_without_rules(self):
+        program = Program(3, 5, [UP, function("rest", "t", "t")], [], [])
+        still = Lead("still", "up", "rest", [number(5)])
+        self.assertEqual(Shelf(program, BOOK, [still]).rules, Shelf(program, BOOK, []).rules)
+        self.assertFalse(Shelf(program, BOOK, [still]) == Shelf(program, BOOK, []))
+
 
 class TestBefore(Raises, unittest.TestCase):
     def test_each_index(self):

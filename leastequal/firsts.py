@@ -1,6 +1,6 @@
 """The first terms of all classes of a web: of the members of the least size the one with the least text."""
 
-from heapq import heapify, heappop, heappush
+from heapq import heappop, heappush
 
 from leastequal.forms import is_leaf
 from leastequal.term_texts import leaf_text
@@ -23,8 +23,7 @@ class Firsts:
     def settle(self):
         """Finds the least size of a member of each class, and the node of the first term."""
         waiting, users = _users_of(self.web)
-        ready = [(1, index) for index in waiting if waiting[index] == 0]
-        heapify(ready)
+        ready = sorted([(1, index) for index in waiting if waiting[index] == 0])
         while ready:
             size, index = heappop(ready)
             head = self.web.heads[self.web.homes[index]]

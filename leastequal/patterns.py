@@ -51,8 +51,10 @@ class Pattern:
         wanted = [(index, one[2]) for index, one in enumerate(inner) if one[2] is not None]
         table = {}
         for place, rows in self.look.by_label.get(part[0], {}).items():
-            fitting = [row for row in rows if all([row[index] in its for index, its in wanted])]
-            if fitting and len(fitting[0]) == len(inner):
+            # Calls and loops with one label may have unlike numbers of parts.
+            rows_as_long = [row for row in rows if len(row) == len(inner)]
+            fitting = [row for row in rows_as_long if all([row[index] in its for index, its in wanted])]
+            if fitting:
                 table[place] = fitting
         return part, inner, table
 

@@ -75,6 +75,37 @@ class TestClosing(Raises, unittest.TestCase):
             self.assertEqual(classes.join(one, other, index), slow.join(one, other, index))
             self.assertTrue(slow.same_as(classes))
 
+    def test_a_node_that_became_another_one(self):
+        # The node of a and b became that of c and b before b comes to another class.
+        for heavy in (B, name("d")):
+            classes, slow = Classes(), SlowClasses()
+            for made in (classes, slow):
+                for term in [("add", A, B), ("add", name("c"), B), ("mul", B, A)] + [(label, heavy) for label in ("neg", "flip", "at", "shl 1", "shl 2")]:
+                    made.put(term)
+                made.put(name("d"))
+            for one, other in ((A, name("c")), (B, name("d")), (("neg", B), A), (("flip", name("d")), B)):
+                self.assertEqual(classes.join(one, other, 1), slow.join(one, other, 1))
+                self.assertTrue(slow.same_as(classes))
+
+    def test_in_pairs(self):
+        # Classes of one size come together again and again.
+        for seed in range(6):
+            rng = random.Random(seed)
+            classes, slow = Classes(), SlowClasses()
+            names = [name(f"x{index}") for index in range(16)]
+            for _ in range(50):
+                term = (rng.choice(["add", "mul", "sub"]), rng.choice(names), rng.choice(names))
+                self.assertEqual(classes.put(term), slow.put(term))
+            step = 1
+            while step < 16:
+                for index in rng.sample(range(0, 16, 2 * step), 8 // step):
+                    one, other = names[index + rng.randrange(step)], names[index + step]
+                    self.assertEqual(classes.join(one, other, index), slow.join(one, other, index))
+                    self.assertTrue(slow.same_as(classes))
+                step *= 2
+            term = ("neg", ("add", names[0], names[15]))
+            self.assertEqual(classes.put(term), slow.put(term))
+
     def test_a_class_that_is_a_part_of_itself(self):
         classes = Classes()
         classes.put(("neg", ("neg", ("neg", X))))

@@ -129,6 +129,21 @@ class TestMatches(Raises, unittest.TestCase):
             for side in SIDES:
                 self.assertEqual(self.both(classes, side), all_matches(classes, side))
 
+    def test_unlike_numbers_of_parts(self):
+        # Calls and loops that do not fit may stand in a class beside each other.
+        for pairs in (
+            [(("call f 0", A), ("call f 0", A, ONE)), (("call f 0", A), ("call f 0",))], [(("call f 0",), ("call f 0", A)), (("call f 0",), ("call f 0", ONE, A))],
+            [(("loop f 0", ONE, A), ("loop f 0", ONE, A, B)), (("call f 0", ONE, A, B), A)],
+        ):
+            for some in (pairs, pairs[::-1]):
+                classes = classes_of(*some)
+                classes.put(("neg", ("call f 0", A, ONE)))
+                for side in (
+                    ("call f 0",), ("call f 0", X), ("call f 0", X, Y), ("call f 0", X, ONE), ("call f 0", ONE), ("neg", ("call f 0", X, ONE)), ("neg", ("call f 0", X)),
+                    ("loop f 0", X, Y), ("loop f 0", X, Y, Z), ("loop f 0", ONE, X, X), ("call f 0", ONE, X, Y),
+                ):
+                    self.assertEqual(self.both(classes, side), all_matches(classes, side))
+
     def test_ways(self):
         classes = classes_of((("neg", A), ("add", B, C)))
         rule = Rule("r", ("add", X, Y), ("sub", Y, X), 2)

@@ -46,11 +46,9 @@ class Counts:
         self.counts = {one: [0] for one in self.rows}
         self.ways = {(): [1]}
         self.reached = 0
-        inner = [inner_of(row) for one in self.rows for row in self.rows[one]]
-        tails = [parts[first:] for parts in inner for first in range(len(parts))]
-        # A tuple stands behind its end, of which its ways are made.
-        for _, tail in sorted(set([(len(tail), tail) for tail in tails])):
-            self.ways[tail] = []
+        for parts in [inner_of(row) for one in self.rows for row in self.rows[one]]:
+            for first in range(len(parts)):
+                self.ways[parts[first:]] = []
 
     def reach(self, size):
         """Counts up to a size."""
@@ -75,8 +73,7 @@ class Counts:
         return self.counts[place][size]
 
     def member(self, place, size, index):
-        """The member of a size of a class at an index."""
-        self.reach(size)
+        """The member of a size of a class at an index; members of this size must be counted already."""
         made = []
         waiting = [(place, size, index, None)]
         while waiting:

@@ -85,7 +85,7 @@ class TestTables(Raises, unittest.TestCase):
     def test_equality(self):
         costs = [
             Weights({"add": 2, "mul": 3}, 1), Weights({"add": 2}, 1), Weights({"add": 2, "mul": 3}, 2), Weights({"add": 2, "mul": 4}, 1), Depth({"add": 2, "mul": 3}, 1),
-            Depth({"add": 2}, 1), Needs(), Both(Weights({}, 1), Needs()), Both(Weights({}, 2), Needs()), Both(Weights({}, 1), Depth({}, 1)), Both(Weights({}, 1), Weights({}, 1)),
+            Depth({"add": 2}, 1), Depth({"add": 2}, 0), Needs(), Both(Weights({}, 1), Needs()), Both(Weights({}, 2), Needs()), Both(Weights({}, 1), Depth({}, 1)), Both(Weights({}, 1), Weights({}, 1)),
         ]
         for one, other in itertools.product(range(len(costs)), repeat=2):
             self.assertIs(costs[one] == costs[other], one == other)

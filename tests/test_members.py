@@ -100,6 +100,20 @@ class TestCounts(Raises, unittest.TestCase):
         texts = [member_at(classes, top, 5, index) for index in range(many_members(classes, top, 5))]
         self.assertEqual(texts, [("add", A, ("neg", ("neg", A))), ("add", ("neg", A), ("neg", A)), ("add", ("neg", ("neg", A)), A)])
 
+    def test_three_parts(self):
+        classes = Classes()
+        classes.join(("neg", A), A, None)
+        classes.join(A, B, None)
+        classes.join(("flip", X), X, None)
+        for top in (classes.put(("call f 0", A, X, A)), classes.put(("call f 0", X, A, A)), classes.put(("loop f 0", A, A, A, X))):
+            for size in range(4, 9):
+                many = many_members(classes, top, size)
+                members = [member_at(classes, top, size, index) for index in range(many)]
+                self.assertEqual(members, ordered(classes, top, members))
+                self.assertEqual(len(set(members)), many)
+                for index, term in enumerate(members):
+                    self.assertEqual(index_of(classes, top, term), (size, index))
+
     def test_the_first_part_comes_first(self):
         classes = Classes()
         for one, other in ((A, B), (A, C)):
@@ -273,6 +287,26 @@ class TestSameMembers(Raises, unittest.TestCase):
                 else:
                     self.assertEqual(sorted(told.pairs, key=str), sorted(found, key=str))
         self.assertGreater(min(seen.values()), 50)
+
+    def test_all_nodes_of_the_other(self):
+        # The other Classes has a node of its own for each choice of parts.
+        for label, many, spellings in (("add", 2, "abcdef"), ("call f 0", 3, "abcd"), ("loop f 0", 4, "abc")):
+            one, other = Classes(), Classes()
+            for spelling in spellings:
+                one.join(A, name(spelling), None)
+            top = one.put((label, *[A] * many))
+            for parts_of_term in itertools.product(spellings, repeat=many):
+                other.put((label, *[name(spelling) for spelling in parts_of_term]))
+            place, its = one.put(TRUE), other.put(TRUE)
+            wanted = {(0, other.class_of(name(spelling))) for spelling in spellings} | {(place, its)}
+            for parts_of_term in itertools.product(spellings, repeat=many):
+                wanted.add((top, other.class_of((label, *[name(spelling) for spelling in parts_of_term]))))
+            self.assertEqual(sorted(same_members(one, place, other, its).pairs), sorted(wanted))
+            self.assertEqual(sorted(same_members(other, its, one, place).pairs), sorted(pair[::-1] for pair in wanted))
+            gone = (label, *[name(spellings[-1])] * many)
+            other.join(gone, name("new"), None)
+            one.put(name("new"))
+            self.assertEqual(size_of(same_members(one, place, other, other.class_of(gone)).term), 1)
 
     def test_many_pairs_for_a_part(self):
         # One class of the first Classes has the members of a hundred classes of the other one.

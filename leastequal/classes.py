@@ -41,9 +41,7 @@ class Classes:
 
     def put(self, term):
         """Puts a term: the number of its class."""
-        whole = checked_term(term, "term")
-        self.kept = {}
-        return self.web.least[self.web.put(whole)]
+        return self.web.least[self.put_head(checked_term(term, "term"))]
 
     def class_of(self, term):
         """The number of the class in which a term lies, None if it lies in none."""
@@ -56,8 +54,15 @@ class Classes:
         second = checked_term(other, "other")
         if kind_of(first) != kind_of(second):
             raise Misfit("kinds")
-        self.kept = {}
-        return self.join_heads(self.web.put(first), self.web.put(second), (first, second, fixed(why)))
+        return self.join_heads(self.put_head(first), self.put_head(second), (first, second, fixed(why)))
+
+    def put_head(self, term):
+        """Puts a term: the head of its class."""
+        many = len(self.web.rows)
+        head = self.web.put(term)
+        if len(self.web.rows) > many:
+            self.kept = {}
+        return head
 
     def join_heads(self, one, other, triple):
         """Makes the classes of two heads one, by a triple for the record: whether they were two."""

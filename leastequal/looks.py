@@ -5,6 +5,13 @@ from leastequal.forms import is_leaf
 from leastequal.patterns import Pattern
 
 
+def look_at(classes):
+    """The Look of a Classes, which is kept until the classes change."""
+    if "look" not in classes.kept:
+        classes.kept["look"] = Look(classes)
+    return classes.kept["look"]
+
+
 class Look:
     """The nodes of a Classes as they stand, classes told by their numbers.
 

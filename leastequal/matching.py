@@ -4,7 +4,7 @@ from leastequal.checks import is_integer
 from leastequal.classes import check_classes
 from leastequal.errors import BadNumber, BadTerm, Misfit, TooMany
 from leastequal.forms import checked_term, kind_of, parts_of, spellings_in, term_of
-from leastequal.looks import Look
+from leastequal.looks import look_at
 from leastequal.patterns import is_open_leaf
 from leastequal.program import check_program
 from leastequal.rules import check_rule
@@ -42,7 +42,7 @@ def matches(classes, rule, way):
         raise BadNumber("way")
     if way == -1 and rule.ways == 1:
         raise Misfit("way")
-    found = Look(classes).matches_of(rule.left if way == 1 else rule.right, MOST_MATCHES)
+    found = look_at(classes).matches_of(rule.left if way == 1 else rule.right, MOST_MATCHES)
     if len(found) > MOST_MATCHES:
         raise TooMany("matches", MOST_MATCHES)
     return tuple(found)
@@ -51,11 +51,11 @@ def matches(classes, rule, way):
 def folds(classes):
     """The pairs of a class and a term in it that folds, ascending."""
     check_classes(classes, "classes")
-    return tuple(Look(classes).folds_of(None))
+    return tuple(look_at(classes).folds_of(None))
 
 
 def turns(classes, program):
     """The loops over numbers that turn: tuples of a class, a label, a number and other classes, ascending."""
     check_classes(classes, "classes")
     check_program(program)
-    return tuple(Look(classes).turns_of(program, None))
+    return tuple(look_at(classes).turns_of(program, None))

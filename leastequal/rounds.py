@@ -5,7 +5,7 @@ from leastequal.checks import is_within
 from leastequal.classes import Classes, check_classes
 from leastequal.errors import BadNumber, Misfit, TooMany
 from leastequal.forms import checked_term, many_levels, many_parts, parts_of
-from leastequal.looks import Look, loop_over
+from leastequal.looks import look_at, loop_over
 from leastequal.papers import fixed
 from leastequal.patterns import is_open_leaf, leaves_of, with_leaves
 from leastequal.program import unfit
@@ -50,7 +50,7 @@ def _joins_of(classes, shelf, most):
 
     A join is (rule, way, side, partner, stands): the sides that match, with the classes for their leaves.
     """
-    look = Look(classes)
+    look = look_at(classes)
     found = []
     for rule in shelf.rules:
         for way in (1, -1)[:rule.ways]:

@@ -2,7 +2,7 @@
 
 import itertools
 
-from helpers import X, kind, name, number, parts
+from helpers import X, kind, parts
 from leastequal.classes import Classes
 from leastequal.term_texts import term_text
 
@@ -132,6 +132,3 @@ def classes_of(*pairs):
     for index, (one, other) in enumerate(pairs):
         made.join(one, other, ("r", 1, (("x", X),)) if index % 2 else index)
     return made
-
-
-assert name("x") == X and number(1)[1] == 1

@@ -2,7 +2,7 @@
 
 import itertools
 
-from helpers import X, flag, label_worth, name, number, parts, subterms
+from helpers import name, number, subterms
 
 SUMS = ("number", "name", "add", "sub", "neg", "mul")
 
@@ -159,6 +159,3 @@ def shifted(term, times):
     while times:
         term, times = (f"shl {min(31, times)}", term), times - min(31, times)
     return term
-
-
-assert integer(shifted(X, 40), {"x": 3}) == 3 * 2 ** 40 and label_worth("neg", 3, [1]) == 7 and parts(flag("p")) == ()

@@ -4,7 +4,7 @@ import random
 import unittest
 
 from helpers import (
-    P, Q, STRANGE, TRUE, X, Y, Draw, DrawCalls, Raises, as_lists, flag, has_no_list, kind, name, number, parts, subterms,
+    P, Q, STRANGE, TRUE, X, Y, Draw, DrawCalls, Raises, as_lists, has_no_list, kind, name, number, parts, subterms,
 )
 from leastequal.calls import folded, turned
 from leastequal.chains import Apart, Chain, Link, Step, Use, after, chain, done, many_steps, moment, plain_steps
@@ -17,7 +17,7 @@ from leastequal.program import Function, Program
 from leastequal.rounds import grown
 from leastequal.rules import Book, Rule
 from leastequal.shelves import Shelf
-from leastequal.terms import part_at, places_of, put_in, with_part
+from leastequal.terms import part_at, with_part
 from slow_classes import drawn_joins
 
 A, B, C = name("a"), name("b"), name("c")
@@ -430,7 +430,6 @@ class TestPlainSteps(Raises, unittest.TestCase):
     def test_what_cannot_be_done(self):
         value = Chain([Link(A, P, [Step(None, 1, (9, 9), 5)]), Link(B, C, [Use(0, -1, (8,))])])
         self.assertEqual(plain_steps(value), (Step(None, -1, (8, 9, 9), 5),))
-        self.assertEqual((places_of(A), put_in(A, {"a": B}), flag("p")), (((),), B, P))
 
 
 if __name__ == "__main__":

@@ -2,7 +2,7 @@
 
 import unittest
 
-from helpers import FALSE, P, STRANGE, TRUE, X, Y, Raises, as_lists, has_no_list, name, number
+from helpers import FALSE, P, STRANGE, TRUE, X, Y, Raises, has_no_list, name, number
 from leastequal.check_leads import shows_led
 from leastequal.check_rules import shows_judged
 from leastequal.errors import BadLead, BadProgram, Impossible, Misfit, NoFunction, TooMany
@@ -12,7 +12,7 @@ from leastequal.papers import Denial, Paper
 from leastequal.program import Function, Program
 from leastequal.rules import NotTaken, Rule, Taken, Unsure, judged
 from leastequal.term_texts import read_term
-from slow_rules import balanced, power
+from slow_rules import balanced
 
 A, B, I = name("a"), name("b"), name("i")
 
@@ -270,7 +270,6 @@ class TestShowsLed(Raises, unittest.TestCase):
         found = led(WHOLE, one).paper
         self.assertIs(shows_led(WHOLE, one, NotLed(0, Unsure(found.paper))), True)
         self.assertIs(shows_led(WHOLE, one, NotLed(0, NotTaken(3, [("t", 0)], (), ()))), False)
-        self.assertEqual(as_lists(power(X, 1)), ["name", "x"])
 
 
 if __name__ == "__main__":

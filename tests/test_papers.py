@@ -6,7 +6,6 @@ from helpers import STRANGE
 from leastequal.every import Fails, Holds
 from leastequal.papers import Denial, Paper, fixed
 
-HOLDS_FIELDS = ("tables",)
 FAILS_FIELDS = ("width", "names", "flags", "memory")
 
 

@@ -15,8 +15,8 @@ def look_at(classes):
 class Look:
     """The nodes of a Classes as they stand, classes told by their numbers.
 
-    by_label has by label, then by class, the tuples of the classes of the parts of its nodes; of leaves these are
-    empty. homes has by node its class; numbers has by class the numbers in it.
+    by_label has by label, then by class, the tuples of the classes of the parts of its nodes, leaves aside. homes has
+    by node its class; numbers has by class the numbers in it.
     """
 
     def __init__(self, classes):

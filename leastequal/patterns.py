@@ -30,13 +30,15 @@ class Pattern:
 
     The classes that its parts match are found one after another and stand in slots, the class of the side first. Each
     step looks at a slot that is there: it puts the classes of the parts of some node behind the others ("open"), or
-    wants the class of another slot ("same") or that of a part all of whose leaves have slots ("equal").
+    wants the class of another slot ("same") or that of a part all of whose leaves have slots ("equal"). Where the parts
+    are put and a leaf among them has a slot already, just the nodes with this class there are gone through.
     """
 
     def __init__(self, side, look):
         self.look = look
         self.steps = []
         self.slots = {}
+        self.sorted_rows = {}
         self.leaves = leaves_of(side)
         ready = bottom_up(side, parts_of, self.make_ready)
         self.start = list(ready[2])
@@ -67,11 +69,12 @@ class Pattern:
             if is_open_leaf(part) and part not in self.slots:
                 self.slots[part] = slot
             elif is_open_leaf(part):
-                self.steps.append(("same", slot, self.slots[part]))
+                self.steps.append(("same", slot, self.slots[part], None))
             elif all([leaf in self.slots for leaf in leaves_of(part)]):
-                self.steps.append(("equal", slot, part))
+                self.steps.append(("equal", slot, part, None))
             else:
-                self.steps.append(("open", slot, table))
+                told = [(index, self.slots[one[0]]) for index, one in enumerate(inner) if self.has_slot(one[0])]
+                self.steps.append(("open", slot, table, told[0] if told else None))
                 behind = [(one, many + index) for index, one in enumerate(inner)]
                 many += len(inner)
                 # What is told by a leaf is looked at first, as it leaves the fewest ways.
@@ -87,12 +90,29 @@ class Pattern:
             if index == len(self.steps):
                 found.append((slots[0], tuple([slots[self.slots[leaf]] for leaf in self.leaves])))
                 continue
-            action, slot, what = self.steps[index]
+            action, slot, what, _ = self.steps[index]
             if action == "open":
-                waiting.extend([(index + 1, slots + row) for row in what.get(slots[slot], [])])
+                waiting.extend([(index + 1, slots + row) for row in self.rows_for(index, slots)])
             elif slots[slot] == (slots[what] if action == "same" else self.place_of(what, slots)):
                 waiting.append((index + 1, slots))
         return found
+
+    def has_slot(self, part):
+        """Whether a part is a name or a flag that has a slot."""
+        return is_open_leaf(part) and part in self.slots
+
+    def rows_for(self, index, slots):
+        """The nodes at a step, just those with the right class where a leaf with a slot tells it."""
+        _, slot, table, told = self.steps[index]
+        place = slots[slot]
+        if told is None:
+            return table.get(place, [])
+        if (index, place) not in self.sorted_rows:
+            by_part = {}
+            for row in table.get(place, []):
+                by_part.setdefault(row[told[0]], []).append(row)
+            self.sorted_rows[(index, place)] = by_part
+        return self.sorted_rows[(index, place)].get(slots[told[1]], [])
 
     def place_of(self, part, slots):
         """The class in which a part lies, all of whose leaves have slots; None if it lies in none."""

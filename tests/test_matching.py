@@ -25,6 +25,8 @@ SIDES = [
     ("if", P, X, X), ("if", ("no", P), ("neg", X), Y), ("add", ("if", P, X, Y), ("if", P, Y, X)), ("no", P), ("both", P, Q), ("both", P, P),
     ("eq", X, Y), ("eq", ("add", X, Y), ("add", Y, X)), ONE, TRUE, ("neg", ONE), ("call up 0", X), ("loop pair 1", X, Y, Z), ("loop pair 0", X, Y, Y),
     ("add", ("add", X, Y), ("neg", ("add", X, Y))), ("at", ("add", X, X)), ("shl 2", X), ("neg", ("call gone 0",)), ("add", ("add", ("add", X, ZERO), ZERO), Y),
+    ("add", ("add", X, Y), ("add", X, Z)), ("add", ("add", X, Y), ("add", Z, X)), ("add", ("add", Y, X), ("neg", ("add", Z, X))),
+    ("add", ("if", P, X, Y), ("if", P, X, X)), ("if", ("eq", X, Y), ("add", X, Z), Y),
 ]
 LABELS = ["add", "add", "neg", "if", "eq", "no", "both", "shl 2", "at"]
 
@@ -109,7 +111,7 @@ class TestMatches(Raises, unittest.TestCase):
 
     def test_drawn(self):
         many = {side: 0 for side in SIDES}
-        for seed in range(60):
+        for seed in range(50):
             classes = drawn(400 + seed)
             copy = classes.copy()
             for side in SIDES:
@@ -127,6 +129,23 @@ class TestMatches(Raises, unittest.TestCase):
         ):
             classes = classes_of(*pairs)
             for side in SIDES:
+                self.assertEqual(self.both(classes, side), all_matches(classes, side))
+
+    def test_leaves_that_are_told_already(self):
+        # A class with many sums: those with the wanted first or second part are found.
+        for seed in range(10):
+            rng = random.Random(seed)
+            classes = Classes()
+            names = [name(f"a{index}") for index in range(6)]
+            for _ in range(14):
+                classes.join(C, ("add", rng.choice(names), rng.choice(names)), None)
+            for label in ("add", "mul"):
+                classes.put((label, C, C))
+            classes.put(("add", C, rng.choice(names)))
+            for side in (
+                ("mul", ("add", X, Y), ("add", X, Z)), ("mul", ("add", X, Y), ("add", Z, X)), ("mul", ("add", X, Y), ("add", Y, Z)), ("add", ("add", X, Y), ("add", Z, Y)),
+                ("add", ("add", X, Y), Y), ("mul", ("add", X, X), ("add", X, Y)),
+            ):
                 self.assertEqual(self.both(classes, side), all_matches(classes, side))
 
     def test_unlike_numbers_of_parts(self):

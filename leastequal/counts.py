@@ -67,7 +67,7 @@ class Counts:
         many, its = self.counts[tail[0]], self.ways[tail[1:]]
         return sum([many[size] * its[total - size] for size in range(1, total + 1) if many[size]])
 
-    def many(self, place, size):
+    def many_of(self, place, size):
         """How many members of a size a class has."""
         self.reach(size)
         return self.counts[place][size]

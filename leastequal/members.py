@@ -34,7 +34,7 @@ def many_members(classes, place, size):
     check_classes(classes, "classes")
     classes.head_at(place)
     _check_size(size)
-    return _counts_of(classes, place).many(place, size)
+    return _counts_of(classes, place).many_of(place, size)
 
 
 def _check_size(size):
@@ -82,7 +82,7 @@ def member_at(classes, place, size, index):
     classes.head_at(place)
     _check_size(size)
     counts = _counts_of(classes, place)
-    if not is_within(index, 0, counts.many(place, size) - 1):
+    if not is_within(index, 0, counts.many_of(place, size) - 1):
         raise BadNumber("index")
     return counts.member(place, size, index)
 

@@ -1,7 +1,7 @@
 """The plain form of two terms of one kind: new names stand for calls, loops and products of atoms."""
 
 from leastequal.errors import TooMany
-from leastequal.forms import GREATEST_NUMBER, is_number, kind_of, parts_of, spellings_in
+from leastequal.forms import GREATEST_NUMBER, is_leaf, is_number, kind_of, parts_as_begun, parts_of, spellings_in
 from leastequal.interned import Interned
 from leastequal.spellings import called
 from leastequal.sums import MOST_SPREAD, is_sum_label, polynomial_of, spread_of, sum_parts
@@ -41,10 +41,16 @@ def _is_product(term):
 
 
 def _atoms_of(term):
-    """The atoms of a term, ascending, each once."""
-    reached = begun(term, sum_parts)
-    atoms = sorted([part for part in reached if part[0] == "name" or not is_sum_label(part[0])])
-    return [atom for index, atom in enumerate(atoms) if index == 0 or atoms[index - 1] != atom]
+    """The atoms of a term, in the order in which they are reached."""
+    return [part for part in begun(term, sum_parts) if part[0] == "name" or not is_sum_label(part[0])]
+
+
+def _signs_of(term):
+    """A row of strings and numbers for a made term: such rows ascend as the terms do.
+
+    A made term may be very deep, too deep to be compared part by part within parts.
+    """
+    return [sign for part in parts_as_begun(term) for sign in (part if is_leaf(part) else part[:1])]
 
 
 class Maker:
@@ -87,8 +93,9 @@ class Maker:
 
     def sum_made(self, term):
         """The polynomial of a term over its atoms, as a plain term."""
-        atoms = _atoms_of(term)
-        numbers = [self.interned.number_of(atom) for atom in atoms]
+        by_number = {self.interned.number_of(atom): atom for atom in _atoms_of(term)}
+        numbers = [number for _, number in sorted([(_signs_of(by_number[number]), number) for number in by_number])]
+        atoms = [by_number[number] for number in numbers]
         ranks = {number: rank for rank, number in enumerate(numbers)}
         found = polynomial_of(term, lambda atom: ranks[self.interned.number_of(atom)])
         made = []

@@ -169,6 +169,29 @@ class TestLabels(Raises, unittest.TestCase):
         self.check(TooMany, SPREAD, plain_form, ("mul", wide, ("neg", X)), X)
 
 
+class TestDeepForms(unittest.TestCase):
+    def test_atoms_that_are_deep(self):
+        # What is made of a thousand products has a thousand levels, one within the other.
+        first = [name(f"a{index}") for index in range(25)]
+        second = balanced("add", [name(f"b{index}") for index in range(40)])
+        one = ("flip", ("mul", balanced("add", first), second))
+        other = ("flip", ("mul", balanced("add", [name("a00")] + first[1:]), second))
+        for factors, many in (((one, one), 1000 + 1), ((one, other), 1000 + 40 + 1), ((other, one), 1000 + 40 + 1)):
+            truth, stands = plain_form(("mul", *factors), X)
+            self.assertEqual((truth[0], truth[1], truth[2], len(stands)), ("eq", name(stands[-1][0]), X, many))
+            mul, left, right = stands[-1][1]
+            self.assertEqual((mul, left[0], right[0]), ("mul", "flip", "flip"))
+            # The new names tell which atom comes first: "p0" is ahead of "p1000".
+            wanted = ["p0", "p0" if factors[0] == factors[1] else "p1000"]
+            self.assertEqual([self.innermost(side) for side in (left, right)], wanted)
+
+    def innermost(self, term):
+        """The first name in a term."""
+        while term[0] != "name":
+            term = term[1]
+        return term[1]
+
+
 class TestDrawn(Raises, unittest.TestCase):
     def test_against_the_slow_form(self):
         seen = 0

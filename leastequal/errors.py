@@ -1,4 +1,4 @@
-"""The errors of the package. Each one keeps what it was made with in attributes."""
+"""The errors of the package. Each one keeps what it was made with in attributes, by which it is compared."""
 
 
 class EqualError(ValueError):
@@ -18,6 +18,9 @@ class BadNumber(EqualError):
         EqualError.__init__(self, f"no such number: {_shown(part)}")
         self.part = part
 
+    def __eq__(self, other):
+        return isinstance(other, BadNumber) and self.part == other.part
+
 
 class BadTerm(EqualError):
     """What is passed is no term, or none of the kind that is told."""
@@ -25,6 +28,9 @@ class BadTerm(EqualError):
     def __init__(self, part):
         EqualError.__init__(self, f"no such term: {_shown(part)}")
         self.part = part
+
+    def __eq__(self, other):
+        return isinstance(other, BadTerm) and self.part == other.part
 
 
 class BadInput(EqualError):
@@ -34,6 +40,9 @@ class BadInput(EqualError):
         EqualError.__init__(self, f"no such words or truths: {_shown(part)}")
         self.part = part
 
+    def __eq__(self, other):
+        return isinstance(other, BadInput) and self.part == other.part
+
 
 class BadProgram(EqualError):
     """What is passed makes no program, or is none."""
@@ -41,6 +50,9 @@ class BadProgram(EqualError):
     def __init__(self, part):
         EqualError.__init__(self, f"no program: {_shown(part)}")
         self.part = part
+
+    def __eq__(self, other):
+        return isinstance(other, BadProgram) and self.part == other.part
 
 
 class BadRule(EqualError):
@@ -50,6 +62,9 @@ class BadRule(EqualError):
         EqualError.__init__(self, f"no rule: {_shown(part)}")
         self.part = part
 
+    def __eq__(self, other):
+        return isinstance(other, BadRule) and self.part == other.part
+
 
 class BadBook(EqualError):
     """What is passed makes no book or shelf, or is none."""
@@ -57,6 +72,9 @@ class BadBook(EqualError):
     def __init__(self, part):
         EqualError.__init__(self, f"no book: {_shown(part)}")
         self.part = part
+
+    def __eq__(self, other):
+        return isinstance(other, BadBook) and self.part == other.part
 
 
 class BadLead(EqualError):
@@ -66,6 +84,9 @@ class BadLead(EqualError):
         EqualError.__init__(self, f"no lead: {_shown(part)}")
         self.part = part
 
+    def __eq__(self, other):
+        return isinstance(other, BadLead) and self.part == other.part
+
 
 class BadClasses(EqualError):
     """What is passed is no Classes."""
@@ -73,6 +94,9 @@ class BadClasses(EqualError):
     def __init__(self, part):
         EqualError.__init__(self, f"no classes: {_shown(part)}")
         self.part = part
+
+    def __eq__(self, other):
+        return isinstance(other, BadClasses) and self.part == other.part
 
 
 class BadCost(EqualError):
@@ -82,6 +106,9 @@ class BadCost(EqualError):
         EqualError.__init__(self, f"no cost: {_shown(part)}")
         self.part = part
 
+    def __eq__(self, other):
+        return isinstance(other, BadCost) and self.part == other.part
+
 
 class BadStep(EqualError):
     """What is passed is no step, or one that cannot be done."""
@@ -89,6 +116,9 @@ class BadStep(EqualError):
     def __init__(self, part):
         EqualError.__init__(self, f"no such step: {_shown(part)}")
         self.part = part
+
+    def __eq__(self, other):
+        return isinstance(other, BadStep) and self.part == other.part
 
 
 class BadCode(EqualError):
@@ -98,6 +128,9 @@ class BadCode(EqualError):
         EqualError.__init__(self, f"no code: {_shown(part)}")
         self.part = part
 
+    def __eq__(self, other):
+        return isinstance(other, BadCode) and self.part == other.part
+
 
 class Misfit(EqualError):
     """Each thing that is passed is right, but they do not fit together."""
@@ -106,6 +139,9 @@ class Misfit(EqualError):
         EqualError.__init__(self, f"this does not fit: {_shown(part)}")
         self.part = part
 
+    def __eq__(self, other):
+        return isinstance(other, Misfit) and self.part == other.part
+
 
 class Missing(EqualError):
     """A value that is none here. The classes below it are raised, never this one."""
@@ -113,6 +149,9 @@ class Missing(EqualError):
     def __init__(self, value):
         EqualError.__init__(self, f"none here: {_shown(value)}")
         self.value = value
+
+    def __eq__(self, other):
+        return type(self) is type(other) and self.value == other.value
 
 
 class NoName(Missing):
@@ -138,6 +177,9 @@ class Twice(EqualError):
         EqualError.__init__(self, f"this stands twice: {_shown(value)}")
         self.value = value
 
+    def __eq__(self, other):
+        return isinstance(other, Twice) and self.value == other.value
+
 
 class TooMany(EqualError):
     """There are more than the most of these."""
@@ -147,6 +189,9 @@ class TooMany(EqualError):
         self.what = what
         self.most = most
 
+    def __eq__(self, other):
+        return isinstance(other, TooMany) and self.what == other.what and self.most == other.most
+
 
 class Impossible(EqualError):
     """It cannot be done, as a paper shows."""
@@ -154,6 +199,9 @@ class Impossible(EqualError):
     def __init__(self, paper):
         EqualError.__init__(self, "this cannot be done, as the paper shows")
         self.paper = paper
+
+    def __eq__(self, other):
+        return isinstance(other, Impossible) and self.paper == other.paper
 
 
 class BadText(EqualError):
@@ -163,3 +211,6 @@ class BadText(EqualError):
         EqualError.__init__(self, "an item of the text cannot stand, or is missing")
         self.line = line
         self.item = item
+
+    def __eq__(self, other):
+        return isinstance(other, BadText) and self.line == other.line and self.item == other.item

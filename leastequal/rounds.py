@@ -25,11 +25,12 @@ def round_of(classes, shelf, most):
     """Does a round: how many matches, folds and turns there were, whether it is cut, and whether it is still."""
     check_classes(classes, "classes")
     check_shelf(shelf)
-    _check_most(most)
+    check_most(most)
     return _done(classes, shelf, most)
 
 
-def _check_most(most):
+def check_most(most):
+    """Raises BadNumber for what is no bound of a round."""
     if not is_within(most, 1, MOST_IN_ROUND):
         raise BadNumber("most")
 
@@ -125,6 +126,11 @@ class Grown:
         self.cut = fixed(cut)
         self.still = fixed(still)
 
+    def __eq__(self, other):
+        if not isinstance(other, Grown) or self.classes != other.classes or self.place != other.place:
+            return False
+        return self.rounds == other.rounds and self.cut == other.cut and self.still == other.still
+
 
 def grown(term, shelf, rounds, most):
     """The Grown of a term: as many rounds as told, unless one is cut or still."""
@@ -132,7 +138,7 @@ def grown(term, shelf, rounds, most):
     check_shelf(shelf)
     if not is_within(rounds, 0, MOST_ROUNDS):
         raise BadNumber("rounds")
-    _check_most(most)
+    check_most(most)
     if unfit(shelf.program.functions, whole) is not None:
         raise Misfit("term")
     if many_parts(whole) > MOST_SIZE:

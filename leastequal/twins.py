@@ -2,6 +2,7 @@
 
 from heapq import heappop, heappush
 
+from leastequal.choices import all_tuples, many_tuples
 from leastequal.forms import is_leaf
 from leastequal.walks import bottom_up
 
@@ -75,8 +76,8 @@ class Twins:
             nodes = other.by_label.get((pair[1], row[0]), [])
             ways = self.choices(one, row[1:], pair, pair[0])
             # There may be far more tuples of pairs than nodes that they could make, or far fewer.
-            if sum([_many_tuples(choices) for choices in ways]) <= len(nodes):
-                tuples = [parts for choices in ways for parts in _all_tuples(choices)]
+            if sum([many_tuples(choices) for choices in ways]) <= len(nodes):
+                tuples = [parts for choices in ways for parts in all_tuples(choices)]
             else:
                 tuples = [tuple(list(zip(row[1:], its[1:]))) for its, _ in nodes if len(its) == len(row)]
                 tuples = [parts for parts in tuples if pair in parts and all([part in self.rows for part in parts])]
@@ -142,17 +143,3 @@ class Twins:
         """The term for a pair, from those of its parts."""
         head = self.rows[pair][1]
         return (head, *inner) if inner else head
-
-
-def _many_tuples(lists):
-    many = 1
-    for one in lists:
-        many *= len(one)
-    return many
-
-
-def _all_tuples(lists):
-    tuples = [()]
-    for one in lists:
-        tuples = [(*some, pair) for some in tuples for pair in one]
-    return tuples

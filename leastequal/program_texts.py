@@ -1,13 +1,13 @@
 """The texts of programs."""
 
-from leastequal.checks import is_within
 from leastequal.deeds import FORMS, MOST_DEEDS, MOST_DEPTH, MOST_LEVELS, MOST_SIZE
 from leastequal.errors import BadText
 from leastequal.forms import many_parts
+from leastequal.line_reader import LineReader, read_integer, read_name, read_names
 from leastequal.program import MOST_FUNCTIONS, MOST_LEAST, MOST_NAMES, MOST_RESULTS, MOST_ROUNDS
 from leastequal.program import Function, Program, check_program
-from leastequal.spellings import integer_of, is_name
-from leastequal.term_reader import Ground, Line, read_part
+from leastequal.spellings import is_name
+from leastequal.term_reader import Ground, read_part
 from leastequal.term_texts import term_text
 
 
@@ -43,39 +43,23 @@ def read_program(text):
     return Reader(text.split("\n")).read_whole()
 
 
-class Reader:
+class Reader(LineReader):
     """The lines of a text of a program, and what is read of them."""
 
     def __init__(self, lines):
-        self.lines = lines
-        self.number = 0
+        LineReader.__init__(self, lines)
         self.functions = []
         self.many_deeds = 0
-
-    def next_word(self):
-        """The first item of the next line, None if there is no line."""
-        return self.lines[self.number].split(" ")[0] if self.number < len(self.lines) else None
-
-    def next_line(self, words):
-        """The next line, which must begin with one of these words, its first item being read."""
-        if self.number == len(self.lines):
-            raise BadText(self.number, 0)
-        line = Line(self.number, self.lines[self.number])
-        if line.now() not in words:
-            line.refuse()
-        line.step()
-        self.number += 1
-        return line
 
     def read_whole(self):
         """Reads the whole."""
         line = self.next_line(("program",))
-        least = _read_integer(line, 1, MOST_LEAST)
-        rounds = _read_integer(line, 0, MOST_ROUNDS)
+        least = read_integer(line, 1, MOST_LEAST)
+        rounds = read_integer(line, 0, MOST_ROUNDS)
         line.finish()
         while self.next_word() == "function" and len(self.functions) < MOST_FUNCTIONS:
             self.functions.append(self.read_function())
-        inputs = _read_names(self.next_line(("inputs",)))
+        inputs = read_names(self.next_line(("inputs",)), MOST_NAMES)
         deeds = self.read_deeds(1)
         if self.number < len(self.lines):
             raise BadText(self.number, 0)
@@ -88,7 +72,7 @@ class Reader:
         if not is_name(name) or name in [function.name for function in self.functions]:
             line.refuse()
         line.step()
-        parameters = _read_names(line)
+        parameters = read_names(line, MOST_NAMES)
         results = [self.read_result(parameters)]
         while self.next_word() == "result" and len(results) < MOST_RESULTS:
             results.append(self.read_result(parameters))
@@ -120,7 +104,7 @@ class Reader:
         ground = Ground(MOST_LEVELS, False, None, self.functions)
         for kind in FORMS[word]:
             if kind == "name":
-                made.append(_read_name(line))
+                made.append(read_name(line))
             elif kind != "deeds":
                 made.append(read_part(line, kind, ground))
         _finish(line, [one for one in made if not isinstance(one, str)])
@@ -145,33 +129,6 @@ class Reader:
         if not made:
             raise BadText(self.number, 0)
         return made
-
-
-def _read_integer(line, least, most):
-    item = line.now()
-    number = None if item is None else integer_of(item)
-    if not is_within(number, least, most):
-        line.refuse()
-    line.step()
-    return number
-
-
-def _read_name(line):
-    if not is_name(line.now()):
-        line.refuse()
-    name = line.now()
-    line.step()
-    return name
-
-
-def _read_names(line):
-    """The names up to the end of the line, unlike ones and not too many."""
-    names = []
-    while line.now() is not None:
-        if line.now() in names or len(names) == MOST_NAMES:
-            line.refuse()
-        names.append(_read_name(line))
-    return names
 
 
 def _finish(line, terms):

@@ -31,6 +31,13 @@ class Run:
 def run(program, width, inputs, memory, replies, fuel):
     """The Run of a program."""
     check_program(program)
+    words = checked_memory(program, width, inputs, memory, replies, fuel)
+    scene = Scene(program.functions, program.rounds, width, words)
+    return Worker(program, scene, inputs, replies, fuel).run_of(program.deeds)
+
+
+def checked_memory(program, width, inputs, memory, replies, fuel):
+    """The memory at the start of a run of a program, or of code: raises what is wrong with what is given to it."""
     check_width(width)
     if not are_integers(inputs, None, None) or len(inputs) != len(program.inputs):
         raise BadInput("inputs")
@@ -40,8 +47,17 @@ def run(program, width, inputs, memory, replies, fuel):
     if not is_within(fuel, 0, MOST_FUEL):
         raise BadNumber("fuel")
     check_least(program, width)
-    scene = Scene(program.functions, program.rounds, width, memory_at(words, width))
-    return Worker(program, scene, inputs, replies, fuel).run_of(program.deeds)
+    return memory_at(words, width)
+
+
+def told_pairs(table):
+    """The pairs of a dict, ascending."""
+    return sorted([(key, worth) for key, worth in table.items()])
+
+
+def told_memory(memory):
+    """The pairs of an address and its word, ascending, for all words that are not 0."""
+    return [pair for pair in told_pairs(memory) if pair[1] != 0]
 
 
 class Worker:
@@ -64,8 +80,7 @@ class Worker:
         """Does the deeds: the Run that comes of it."""
         outcome = "done" if self.do_all(self.ready(deeds)) else "short"
         names = [(name, worth) for name, worth in zip(self.names, self.worths)]
-        memory = sorted([(key, worth) for key, worth in self.scene.memory.items() if worth != 0])
-        return Run(outcome, names, memory, self.told, self.spent)
+        return Run(outcome, names, told_memory(self.scene.memory), self.told, self.spent)
 
     def ready(self, deeds):
         """The deeds with sheets in the place of terms and numbers in the place of names."""

@@ -18,8 +18,7 @@ class Shelf:
     def __init__(self, program, book, leads):
         check_program(program)
         check_book(book)
-        if not is_list(leads) or len(leads) > MOST_LEADS or not all([isinstance(lead, Lead) for lead in leads]):
-            raise BadLead("leads")
+        check_leads(leads)
         twice = first_twice([lead.name for lead in leads])
         if twice is not None:
             raise Twice(twice)
@@ -67,3 +66,9 @@ def check_shelf(shelf):
     """Raises BadBook for what is no Shelf."""
     if not isinstance(shelf, Shelf):
         raise BadBook("shelf")
+
+
+def check_leads(leads):
+    """Raises BadLead for what is no list of Leads, few enough for a shelf."""
+    if not is_list(leads) or len(leads) > MOST_LEADS or not all([isinstance(lead, Lead) for lead in leads]):
+        raise BadLead("leads")

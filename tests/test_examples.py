@@ -7,7 +7,9 @@ MODULES = (
     "errors", "checks", "papers", "words", "terms", "term_texts", "program", "program_texts",
     "meaning", "runs", "plain", "every", "check_every",
     "polynomials", "rules", "check_rules", "calls", "leads", "shelves", "check_leads",
-    "classes", "matching", "rounds", "chains", "check_chains", "members", "costs",
+    "classes", "matching", "rounds", "chains", "check_chains", "members", "check_members", "costs",
+    "registers", "cheapest", "check_cheapest", "stores", "fronts", "check_fronts",
+    "code", "machine", "made", "check_code", "library", "better", "check_better",
 )
 
 # By file: the lines of its examples. "raises ..." tells the error that a line raises.
@@ -264,6 +266,93 @@ raises Misfit('way')
 >>> work_weights(Program(1, 3, [Function("f", ["x"], [("add", x, x)])], [], [])).table
 (('call f 0', 4), ('loop f 0', 10))
 '''),
+    ("check_members", r'''
+>>> [shows_same_members(lone, 0, lone, 0, SameMembers([(0, 0)])), shows_same_members(web, 0, lone, 0, SameMembers([(0, 0), (1, None)])), shows_same_members(web, 0, lone, 0, Parting(x))]
+[True, False, False]
+'''),
+    ("registers", r'''
+>>> a, b, c, d = ("name", "a"), ("name", "b"), ("name", "c"), ("name", "d")
+>>> wide, long = ("add", ("add", a, b), ("add", c, d)), ("add", ("add", ("add", a, b), c), d)
+>>> [need_of(wide), need_of(long), need_of(("if", ("eq", a, b), c, d))]
+[3, 2, 3]
+>>> makes(("sub", a, b), 2, [("name", 1, "a"), ("name", 0, "b"), ("sub", 0, 1, 0)])
+True
+'''),
+    ("cheapest", r'''
+>>> two, web2 = ("number", 2), Classes()
+>>> started = [web2.join(("mul", x, two), ("add", x, x), ("twice", 1, (("x", x),))), web2.join(("add", x, x), ("shl 1", x), ("up", 1, (("x", x),)))]
+>>> [web2.nodes(2), floors(web2, dear), cheapest(web2, 2, dear).term, floors(web2, Needs())]
+[(('add', 0, 0), ('mul', 0, 1), ('shl 1', 0)), ((0, 1), (1, 1), (2, 2)), ('shl 1', ('name', 'x')), ((0, 1), (1, 1), (2, 1))]
+'''),
+    ("check_cheapest", r'''
+>>> [shows_cheapest(web2, 2, dear, Cheapest(("shl 1", x), told)) for told in ([(0, 1), (1, 0), (2, 2)], [(0, 0), (1, 0), (2, 2)], [(0, 1), (1, 1), (2, 1)])]
+[True, False, False]
+'''),
+    ("stores", r'''
+>>> eight = ("add", wide, ("mul", ("add", a, c), ("add", b, d)))
+>>> [need_of(eight), fewest_stores(eight, 3), fewest_stores(eight, 4)]
+[4, 1, 0]
+'''),
+    ("fronts", r'''
+>>> kin, ones = Classes(), Weights([], 1)
+>>> started = [kin.join(wide, ("sub", long, ("number", 0)), ("as told", 1, ()))]
+>>> top = kin.class_of(wide)
+>>> [entry[:2] for entry in front(kin, top, ones).entries]
+[(2, 9), (3, 7)]
+'''),
+    ("check_fronts", r'''
+>>> shows_front(kin, top, ones, front(kin, top, ones))
+True
+'''),
+    ("code", r'''
+>>> step = ("step", ["a", "n"], [[("name", 0, "a"), ("name", 1, "n"), ("add", 0, 0, 1)], [("name", 0, "n"), ("number", 1, 1), ("sub", 0, 0, 1)]])
+>>> ahead = [("spend",), ("open",), ("name", 0, "x"), ("hand", 0), ("number", 0, 0), ("hand", 0), ("name", 0, "x"), ("hand", 0), ("loop step 0", 0), ("keep", "y", 0)]
+>>> turn = [("spend",), ("number", 0, 0), ("name", 1, "y"), ("lt", 0, 0, 1), ("unless", 0, 24), ("spend",), ("name", 0, "y"), ("tell", 0)]
+>>> less = [("spend",), ("name", 0, "y"), ("number", 1, 2), ("sub", 0, 0, 1), ("keep", "y", 0), ("go", 10)]
+>>> last = [("spend",), ("number", 0, 3), ("name", 1, "x"), ("put", 0, 1)]
+>>> code = Code(4, 10, 3, ["x"], [step], ahead + turn + less + last)
+>>> [len(code.rows), code.rows[23], str(code).split("\n")[:5], Code.read(str(code)) == code]
+[28, ('go', 10), ['least 4 rounds 10 registers 3', 'inputs x', 'function step a n', 'block', 'name 0 a'], True]
+'''),
+    ("machine", r'''
+>>> full = run_code(code, 8, [3], [], [], 100)
+>>> short = run_code(code, 8, [3], [], [], 4)
+>>> [full.names, full.memory, full.told, full.turns, short.outcome, short.names, short.told, short.turns]
+[(('x', 3), ('y', 0)), ((3, 3),), (6, 4, 2), 12, 'short', (('x', 3), ('y', 4)), (6,), 4]
+'''),
+    ("made", r'''
+>>> loop = ("loop step 0", ("name", "x"), ("number", 0), ("name", "x"))
+>>> fewer = [("tell", ("name", "y")), ("set", "y", ("sub", ("name", "y"), ("number", 2)))]
+>>> deeds = [("set", "y", loop), ("while", ("lt", ("number", 0), ("name", "y")), fewer), ("put", ("number", 3), ("name", "x"))]
+>>> count = Function("step", ["a", "n"], [("add", ("name", "a"), ("name", "n")), ("sub", ("name", "n"), ("number", 1))])
+>>> whole = Program(4, 10, [count], ["x"], deeds)
+'''),
+    ("check_code", r'''
+>>> [follows(whole, code), follows(whole, made(whole, 4)), follows(whole, Code(4, 10, 3, ["x"], [step], ahead + turn + less + last[:3] + [("put", 1, 0)]))]
+[True, True, False]
+>>> two = ("add", ("name", "x"), ("name", "x"))
+>>> four = ("add", two, two)
+>>> deep = Program(1, 0, [], ["x"], [("tell", ("add", four, four))])
+>>> [registers_of(made(deep, 4)), cells_of(made(deep, 4)), registers_of(made(deep, 3)), cells_of(made(deep, 3)), run_code(made(deep, 3), 8, [5], [], [], 1).told]
+[4, 0, 3, 1, (40,)]
+'''),
+    ("library", r'''
+>>> [len(library(1).rules), library(3).least, library(1).rules[38].name]
+[40, 3, 'noboth']
+'''),
+    ("better", r'''
+>>> book = Book(1, [Rule("seven", ("add", ("mul", ("name", "x"), ("number", 7)), ("name", "x")), ("mul", ("name", "x"), ("number", 8)), 1), Rule("eight", ("mul", ("name", "x"), ("number", 8)), ("shl 3", ("name", "x")), 1)])
+>>> program = Program(1, 0, [], ["x"], [("tell", ("add", ("mul", ("name", "x"), ("number", 7)), ("name", "x")))])
+>>> value = better(program, book, [], 2, 100, Weights({"mul": 8, "add": 2}, 1))
+>>> [value.program.deeds, value.turned[0][1:4]]
+[(('tell', ('shl 3', ('name', 'x'))),), (('shl 3', ('name', 'x')), 2, 2)]
+>>> run(value.program, 4, [5], {}, [], 9) == run(program, 4, [5], {}, [], 9)
+True
+'''),
+    ("check_better", r'''
+>>> shows_better(program, book, [], 2, 100, Weights({"mul": 8, "add": 2}, 1), value)
+True
+'''),
 )
 
 
@@ -309,7 +398,7 @@ class TestExamples(unittest.TestCase):
             self.assertEqual(repr(eval(source, scope)), shown)
 
     def test_all_are_here(self):
-        self.assertEqual(sum(len(steps_of(text)) for _, text in EXAMPLES), 127)
+        self.assertEqual(sum(len(steps_of(text)) for _, text in EXAMPLES), 170)
 
 
 if __name__ == "__main__":

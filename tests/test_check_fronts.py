@@ -157,6 +157,19 @@ class TestFront(Raises, unittest.TestCase):
             table[self.top] = (*worths[:at], 1 if worths[at] is None else worths[at] - 1, *worths[at + 1:])
             self.look(self.entries, sorted(table.items()), False)
 
+    def test_floors_with_a_gap(self):
+        # Where there is no member, a floor may be told all the same; but then there must be an entry for it.
+        box = Classes()
+        top = box.put(WIDE)
+        table = {place: (1,) * 16 if len(box.nodes(place)[0]) == 2 else (None,) + (3,) * 15 for place in box.places}
+        for worths, entries, wanted in (
+            ((None, None) + (7,) * 14, [(3, 7, WIDE)], True), ((5, None) + (7,) * 14, [(3, 7, WIDE)], False), ((5, None) + (7,) * 14, [(1, 5, A), (3, 7, WIDE)], False), ((5, None) + (7,) * 14, [(1, 5, WIDE), (3, 7, WIDE)], False),
+            ((None, 9) + (7,) * 14, [(3, 7, WIDE)], False), ((9, None) + (7,) * 14, [(3, 7, WIDE)], False), ((7,) * 16, [(1, 7, WIDE)], False), ((7,) * 16, [(3, 7, WIDE)], False),
+        ):
+            floors = sorted({**table, top: worths}.items())
+            self.assertFalse(undercut(box, ONES, dict(floors)))
+            self.assertIs(shows_front(box, top, ONES, Front(entries, floors)), wanted)
+
     def test_no_member_at_all(self):
         classes = Classes()
         top = classes.put(heavy(8, A))

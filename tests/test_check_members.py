@@ -178,6 +178,8 @@ class TestSameMembers(Raises, unittest.TestCase):
         for bad in [*STRANGE, 5, "ab", [5], [(0,)], [(0, 0, 0)], [[0, [0]]], [(True, 0)], [(False, False)], [(0, 1.0)], [(0, 0.0)], ["00"], [(0, "0")], [(0, {})], [(1, 0)], [(0, -1)], {0: 0}, []]:
             self.assertIs(shows_same_members(lone, 0, lone, 0, SameMembers(bad)), False, bad)
         self.assertIs(shows_same_members(lone, 0, lone, 0, SameMembers([[0, 0]])), True)
+        for bad in ((5, None), (None, 5), (5, 6), (-1, None), (None, None), (0, 1), (1, 0), (None, "0")):
+            self.assertIs(shows_same_members(lone, 0, lone, 0, SameMembers([(0, 0), bad])), False, bad)
 
     def test_truths_for_numbers(self):
         two = Classes()

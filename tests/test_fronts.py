@@ -146,6 +146,21 @@ class TestFront(Raises, unittest.TestCase):
         classes.join(great, ("neg", A), None)
         self.assertEqual(front(classes, top, ONES).entries, ((1, 2, ("neg", A)),))
 
+    def test_sixteen_registers(self):
+        # No member of so great a need is small enough to be told, but with 16 registers there is one.
+        classes = Classes()
+        for index, need in ((7, 16), (8, 18)):
+            term = heavy(index, ("add", A, A))
+            self.assertEqual(need_of(term), need)
+            top = classes.put(term)
+            floors = dict(front(classes, classes.class_of(A), ONES).floors)[top]
+            if need == 16:
+                self.check(TooMany, {"what": "size", "most": 2000}, front, classes, top, ONES)
+                self.assertEqual(floors, (None,) * 15 + (size_of(term),))
+            else:
+                self.check_part(Misfit, "registers", front, classes, top, ONES)
+                self.assertEqual(floors, (None,) * 16)
+
     def test_registers_go_ahead_of_size(self):
         classes = Classes()
         top = classes.put(heavy(8, A))

@@ -4,6 +4,9 @@
 class EqualError(ValueError):
     """The base of all errors of the package."""
 
+    def __eq__(self, other):
+        return type(self) is type(other)
+
 
 def _shown(value):
     """A value for a message: a string as Python writes it."""

@@ -39,6 +39,7 @@ MADE = [
     (Grown, (Classes(), 2, 3, False, True), (4, 0, 0, True, False)),
     (Paper, ("word", 1, [2]), ("other", 2, [1])),
     (Denial, ("word", 1, [2]), ("other", 2, [1])),
+    (errors.EqualError, (), ()),
     *[(getattr(errors, word), ("one", "two")[:len(fields)], ("two", [1])[:len(fields)]) for word, fields in FIELDS.items()],
 ]
 

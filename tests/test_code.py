@@ -154,6 +154,7 @@ class TestRows(Raises, unittest.TestCase):
         for rows in (
             [("go", 0)], [("unless", 0, 0)], [("go", 2)], [("unless", 0, 2)], [("true", 0), ("go", 0)], [("spend",), ("true", 0), ("go", 1)], [("spend",), ("go", 1)], [("spend",), ("unless", 0, 1)],
             [("go", 2), ("go", 1)], [("spend",), ("go", 3)], [("spend",), ("go", -1)], [("go", True)], [("unless", 0, True)], [("go", "1")], [("go", 1.0)], [("go", None)], [("go", 10 ** 40)], [("ask", "x"), ("unless", 0, 0)],
+            [("true", 0), ("go", -1), ("spend",)], [("true", 0), ("unless", 0, -1), ("spend",)], [("spend",), ("go", -2)],
         ):
             self.wrong(*rows)
 

@@ -243,6 +243,7 @@ class TestMade(Raises, unittest.TestCase):
             self.check_part(BadProgram, "program", made, bad, bad)
         for bad in [*STRANGE, 2, 17, 0, "3", [3]]:
             self.check_part(BadNumber, "many", made, program, bad)
+            self.check_part(BadNumber, "many", made, Program(1, 0, [], [], []), bad)
         self.assertEqual((made(many=3, program=program).registers, made(program, 16).registers), (3, 16))
         self.assertEqual(made(program, 3), made(program, 3))
 
@@ -279,6 +280,22 @@ class TestFollows(Raises, unittest.TestCase):
         self.assertIs(follows(Program(1, 0, [], [], []), Code(1, 0, 3, [], [], [("spend",)])), False)
         self.assertIs(follows(Program(1, 0, [], [], []), Code(1, 0, 3, [], [], [("true", 0)])), False)
         self.assertIs(follows(Program(1, 0, [], [], [("ask", "x")]), Code(1, 0, 3, [], [], [])), False)
+
+    def test_functions_that_nothing_calls(self):
+        program = Program(1, 0, [Function("one", [], [ONE])], [], [])
+        for word, wanted in (("one", True), ("uno", False)):
+            code = Code(1, 0, 3, [], [(word, [], [[("number", 0, 1)]])], [])
+            self.assertIs(follows(program, code), wanted)
+            self.assertIs(slow_follows(program, code), wanted)
+
+    def test_the_last_row_is_missing(self):
+        for deed in (("set", "x", X), ("tell", X), ("put", X, Y), ("when", ("true",), [], []), ("while", ("true",), []), ("ask", "x")):
+            program = Program(1, 0, [], [], [deed])
+            rows = made(program, 3).rows
+            for many in range(len(rows)):
+                # What leads behind the rows that are left leads behind the last one.
+                left = [(*row[:-1], min(row[-1], many)) if row[0] in ("go", "unless") else row for row in rows[:many]]
+                self.assertIs(follows(program, Code(1, 0, 3, [], [], left)), False)
 
     def test_other_rows_of_terms(self):
         program = Program(1, 0, [Function("f", ["a"], [("add", A, ONE)])], [], [("tell", ("sub", X, Y)), ("put", X, Y)])

@@ -38,7 +38,8 @@ class Pairing:
             return [homes.get(row)]
         choices = [self.partners[side].get(part, []) for part in inner]
         # There may be far more tuples of partners than nodes, so the nodes are gone through, and the others counted.
-        found = [homes[(row[0], *parts)] for parts in self.rows_beside(side, row[0], choices)]
+        nodes = [(row[0], *parts) for parts in self.rows_beside(side, row[0], choices)]
+        found = [homes[node] for node in nodes]
         return found if len(found) == many_tuples(choices) else [*found, None]
 
     def rows_beside(self, side, label, choices):

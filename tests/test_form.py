@@ -102,6 +102,19 @@ def nodes_of(file):
     return list(ast.walk(ast.parse(file.read_text())))
 
 
+def stars_in_indexes(nodes):
+    """The rows at which `*` or `**` stands in the brackets of an index, however deep, ascending."""
+    rows = set()
+    for node in nodes:
+        if isinstance(node, ast.Subscript):
+            for one in ast.walk(node.slice):
+                if isinstance(one, ast.Starred) or isinstance(one, ast.keyword) and one.arg is None:
+                    rows.add(one.value.lineno)
+                if isinstance(one, ast.Dict) and None in one.keys:
+                    rows.add(one.lineno)
+    return sorted(rows)
+
+
 class TestInterface(unittest.TestCase):
     def test_names_and_parameters(self):
         for module, things in INTERFACE.items():
@@ -169,6 +182,25 @@ class TestFiles(unittest.TestCase):
                 self.assertNotIsInstance(node, refused, file.name)
                 if isinstance(node, ast.Constant):
                     self.assertNotIsInstance(node.value, (float, complex))
+
+    def test_no_star_in_an_index(self):
+        for file in FILES:
+            self.assertEqual(stars_in_indexes(nodes_of(file)), [], file.name)
+
+    def test_which_stars_stand_in_an_index(self):
+        refused = (
+            "homes[(row[0], *parts)]", "homes[row[0], *parts]", "homes[(row[0], (1, *parts))] = 2", "del homes[(*parts,)]",
+            "homes[1][(*parts,)][2]", "homes[rows[(*parts,)]]", "homes[:len([*parts])]", "homes[max(*parts)]", "homes[told(**parts)]",
+            "homes[len({**parts})]", "[homes[(row[0], *parts)] for parts in rows]", "def told(parts):\n    return homes[(1, *parts)]",
+        )
+        for text in refused:
+            self.assertEqual(stars_in_indexes(ast.walk(ast.parse(text))), [len(text.split("\n"))], text)
+        allowed = (
+            "homes[node]", "[*parts, homes[1]]", "(homes[1], *homes[2:])", "told(*homes[1])", "told(**homes[1])", "{**homes[1], 2: 3}",
+            "first, *homes[1] = parts", "homes[2 * 3 ** k]", "nodes = [(row[0], *parts) for parts in rows]", "[*parts][0]",
+        )
+        for text in allowed:
+            self.assertEqual(stars_in_indexes(ast.walk(ast.parse(text))), [], text)
 
 
 if __name__ == "__main__":
